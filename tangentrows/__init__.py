@@ -1,0 +1,1 @@
+"""Rows of polynomials that are tangent to lines."""

@@ -1,0 +1,1 @@
+"""Numbers over a prime, and tables of them."""

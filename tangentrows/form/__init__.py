@@ -1,0 +1,1 @@
+"""Forms, which are polynomials whose terms have one degree."""

@@ -1,0 +1,1 @@
+"""Lines and points of the plane, and lots of lines."""
