@@ -89,6 +89,9 @@ class DeterminantTest(Checks, unittest.TestCase):
     def test_some(self):
         self.assertEqual(str(determinant_of(((X, Y), (Y, X)))), "x^2 - y^2")
         self.assertEqual(determinant_of(((X, Y), (X * X, X * Y))), ZERO)
+        one, two = Form.read(0, 2, "1"), Form.read(0, 2, "2")
+        self.assertEqual(str(determinant_of(((one, two), (Y, X)))), "x - 2y")
+        self.assertEqual(str(determinant_of(((one, two), (two, one)))), "-3")
         self.assertEqual(determinant_of(((A, NIL, NIL), (NIL, B * B, NIL), (A, B, C))), A * B * B * C)
         self.assertEqual(determinant_of(((A, B, C), (A, B, C), (A, A, A))), NIL)
 

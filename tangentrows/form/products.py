@@ -3,6 +3,7 @@
 from tangentrows.base.numbers import all_fit, need_prime
 from tangentrows.errors import InvalidForm, InvalidOperation, TooMany
 from tangentrows.form.forms import MAX_DEGREE, Form, degree_of_all, is_form, need_alike, need_form, need_letters
+from tangentrows.form.terms import unit
 
 
 def linear(prime, numbers):
@@ -20,22 +21,16 @@ def linear(prime, numbers):
     return Form(prime, letters, table)
 
 
-def one_of(prime, letters):
-    """The form 1."""
-    return Form(prime, letters, {(0,) * letters: 1})
-
-
 def product_of(prime, letters, forms):
     """The product of a tuple of forms."""
     need_prime(prime)
     need_letters(letters)
     if not isinstance(forms, tuple) or not all([is_form(prime, letters, form) for form in forms]):
         raise InvalidForm("no tuple of forms over the prime in so many letters")
+    # A zero behind great forms would come too late: their product alone is refused.
     if not all([bool(form) for form in forms]):
         return Form(prime, letters)
-    if sum([form.degree for form in forms]) > MAX_DEGREE:
-        raise TooMany(MAX_DEGREE)
-    whole = one_of(prime, letters)
+    whole = Form(prime, letters, unit(letters))
     for form in forms:
         whole = whole * form
     return whole

@@ -49,10 +49,10 @@ def digits_at(text, start, most):
 
 
 def read_term(letters, text):
-    """The pair (exponents, number) of a text like that of a term, perhaps with a minus; None if it is unlike one."""
+    """The pair (exponents, number) of the text of a term, perhaps with a minus; any such pair for other texts."""
     at = 1 if text.startswith("-") else 0
     digits = digits_at(text, at, MOST_DIGITS)
-    number = int(digits) if digits else 1
+    number = int(digits or "1")
     place = at + len(digits)
     exponents = []
     for letter in letters:
@@ -63,23 +63,18 @@ def read_term(letters, text):
                 digits = digits_at(text, place + 1, 2)
                 exponent, place = int(digits or "0"), place + 1 + len(digits)
         exponents.append(exponent)
-    if place != len(text):
-        return None
     return tuple(exponents), (-number if at else number)
 
 
 def read_terms(letters, text):
-    """The table of the terms of a text, or None.
+    """The table of the terms of a text.
 
-    Only if the text of this table is the text again, it is one: the reading is more lenient than the writing.
+    It is also made of a text that is none: the text was one only if the text of this table is the same again.
     """
     if text == "0":
         return {}
     table = {}
     for piece in text.replace(" - ", " + -").split(" + "):
-        term = read_term(letters, piece)
-        if term is None:
-            return None
-        exponents, number = term
+        exponents, number = read_term(letters, piece)
         table[exponents] = number
     return table

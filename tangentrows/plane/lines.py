@@ -12,14 +12,14 @@ def is_normal_triple(prime, value):
     return all_fit(prime, value, 3) and any(value) and made_normal(prime, value) == value
 
 
-def is_small(prime, triple):
-    """Whether the integers of a normal triple are those of a line."""
-    return prime != 0 or max([abs(number) for number in triple]) <= MAX_ENTRY
+def is_small(triple):
+    """Whether the integers of a normal triple are not too great for a line; over primes other than 0 they never are."""
+    return max([abs(number) for number in triple]) <= MAX_ENTRY
 
 
 def fits_line(prime, value):
     """Whether the value is a line over a prime that was checked."""
-    return is_normal_triple(prime, value) and is_small(prime, value)
+    return is_normal_triple(prime, value) and is_small(value)
 
 
 def is_line(prime, value):
@@ -52,7 +52,7 @@ def line_of(prime, numbers):
     if not all_fit(prime, numbers, 3) or not any(numbers):
         raise InvalidLine("no triple of numbers, not all 0")
     line = made_normal(prime, numbers)
-    if not is_small(prime, line):
+    if not is_small(line):
         raise InvalidLine("an integer of the line is too great")
     return line
 

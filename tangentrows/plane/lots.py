@@ -142,7 +142,7 @@ class Lot:
         back = undone(self._prime, table)
         columns = [[row[at] for row in back] for at in range(3)]
         lines = [made_normal(self._prime, sent_by(self._prime, columns, line)) for line in self._lines]
-        if not all([is_small(self._prime, line) for line in lines]):
+        if not all([is_small(line) for line in lines]):
             raise TooMany(MAX_ENTRY)
         return Lot(self._prime, tuple(lines))
 
