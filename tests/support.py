@@ -2,6 +2,7 @@
 
 from tangentrows import errors
 from tangentrows.form.forms import Form
+from tangentrows.mark.marks import Marks
 from tangentrows.plane.lots import Lot
 
 KEPT = {"InvalidNumber": "given", "UnknownName": "wanted", "TooMany": "most", "Refused": "reason",
@@ -70,6 +71,8 @@ def wrong_values():
         {(1, 0): 0}, deep(1, 8), deep((1, 0, 0), 7), deep({"x": [None]}, 6), ((1, 0, 0), [0, 1, 0]),
         Form(0, 2), Form(5, 3, {(1, 0, 0): 2}), (Form(0, 2), Form(0, 2)), [Form(0, 2)], {"form": Form(0, 3)},
         Lot(0, ((1, 0, 0),)), (Lot(0, ((1, 0, 0),)),), Lot(2, ((0, 1, 1), (1, 0, 0))), errors.InvalidForm("it"),
+        Marks(0, {(1, 0): 2, (0, 1): 1}), (Marks(5, {}),), ((Form(0, 2), Form(0, 2)),) * 2, (Form(5, 3),) * 3,
+        (Form(0, 3, {(1, 0, 0): 1}), Form(0, 3), Form(0, 3)),
     ]
 
 

@@ -9,14 +9,26 @@ from support import Checks, outcome, wrong_values
 from tangentrows.base import numbers, tables
 from tangentrows.form import forms, products
 from tangentrows.form.forms import Form
+from tangentrows.free import free
+from tangentrows.mark import euclid, marks, pairs, places
+from tangentrows.mark.marks import Marks
 from tangentrows.plane import lines, lots, primes
 from tangentrows.plane.lots import Lot
+from tangentrows.press import lines as press_lines
+from tangentrows.press import pairs as press_pairs
+from tangentrows.row import rows, slopes
 
 X, Y, Z = (1, 0, 0), (0, 1, 0), (0, 0, 1)
 XF, YF = Form(0, 2, {(1, 0): 1}), Form(0, 2, {(0, 1): 1})
 LOT, MODULO = Lot(0, (X, Y, (1, 1, 0))), Lot(5, (X, Y, Z))
 TABLE = ((1, 2), (3, 4))
-NUMBER, OPERATION = "InvalidNumber", "InvalidOperation"
+NUMBER, OPERATION, PAIR = "InvalidNumber", "InvalidOperation", "InvalidPair"
+NO_MARKS, NO_LOT, NO_LINE, NO_ROW = "InvalidMarks", "InvalidLot", "InvalidLine", "InvalidRow"
+MARKS, ENDLESS = Marks(0, {(1, 0): 2, (0, 1): 1}), Marks(0, {(1, 0): 2, (1, 1): 1})
+TWO, SPOTS = pairs.two_pairs(MARKS), ((1, 0), (0, 1), (1, 1), (1, 2))
+ROW, ZEROS, FREE = rows.plain(0), (Form(0, 3),) * 3, free.free_rows(LOT)
+GENERIC = Lot(0, (X, Y, Z))
+PRESSED = press_pairs.two_pressed(GENERIC, (1, 5, 7))[0]
 
 # Each call with arguments that are right, and for each parameter the errors that it can raise.
 CALLS = (
@@ -56,6 +68,56 @@ CALLS = (
     (primes.bad_primes, (LOT,), (("InvalidLot", OPERATION),)), (primes.count_off, (MODULO,), (("InvalidLot", OPERATION),)),
     (lambda lot: list(primes.each_off(lot)), (MODULO,), (("InvalidLot", OPERATION),)),
     (primes.all_lines, (3,), ((NUMBER,),)),
+    (marks.Marks, (0, {(1, 0): 2}), ((NUMBER,), ("InvalidMarks",))), (MARKS.count_at, ((1, 1),), ((OPERATION,),)),
+    (MARKS.raised, ((1, 1),), ((OPERATION,),)), (MARKS.lowered, ((1, 0),), ((OPERATION,),)),
+    (MARKS.led, (TABLE,), (("InvalidTable", "Refused", "TooMany"),)), (MARKS.__contains__, ((1, 0),), ((),)),
+    (MARKS.__eq__, (MARKS,), ((),)),
+    (pairs.is_pair, (MARKS, TWO[0]), ((NO_MARKS,), ())), (pairs.count_pairs, (MARKS, 3), ((NO_MARKS,), (NUMBER,))),
+    (pairs.pairs_of, (MARKS, 3), ((NO_MARKS,), (NUMBER,))), (pairs.degrees, (MARKS,), ((NO_MARKS,),)),
+    (pairs.two_pairs, (MARKS,), ((NO_MARKS,),)), (pairs.are_two, (MARKS, TWO), ((NO_MARKS,), ())),
+    (pairs.told_by, (MARKS, TWO, TWO[1]), ((NO_MARKS, PAIR), (PAIR,), (PAIR,))),
+    (euclid.contact, (ENDLESS,), ((NO_MARKS, "Refused"),)), (euclid.divided, (ENDLESS,), ((NO_MARKS, "Refused"),)),
+    (euclid.turn_of, (ENDLESS,), ((NO_MARKS, "Refused"),)), (euclid.degrees_by_division, (ENDLESS,), ((NO_MARKS, "Refused"),)),
+    (euclid.pairs_by_division, (ENDLESS,), ((NO_MARKS, "Refused"),)),
+    (euclid.rest_at, (MARKS, TWO[0], (1, 1)), ((NO_MARKS, PAIR), (PAIR,), (OPERATION,))),
+    (euclid.grown, (MARKS, TWO, (1, 1)), ((NO_MARKS, PAIR), (PAIR,), (OPERATION,))),
+    (euclid.pairs_by_growth, (MARKS,), ((NO_MARKS,),)),
+    (places.cross_ratio, (5, SPOTS), ((NUMBER, OPERATION), (OPERATION,))),
+    (places.is_harmonic, (5, SPOTS), ((NUMBER, OPERATION), (OPERATION,))),
+    (places.gap_of_three, (5, (1, 2, 2)), ((NUMBER,), (OPERATION,))), (places.degrees_by_counts, (MARKS,), ((NO_MARKS,),)),
+    (places.is_special, (MARKS,), ((NO_MARKS,),)),
+    (places.special_places, (Marks(5, {(1, 0): 2}), (1, 0)), ((NO_MARKS, OPERATION), (OPERATION,))),
+    (places.widened, (Marks(5, {(1, 0): 2}),), ((NO_MARKS, OPERATION),)),
+    (places.widened_pair, (5, (Form(5, 2), Form(5, 2))), ((NUMBER, PAIR), (PAIR,))),
+    (rows.plain, (5,), ((NUMBER,),)), (rows.is_tangent, (LOT, ROW), ((NO_LOT,), ())), (rows.count_rows, (LOT, 2), ((NO_LOT,), (NUMBER,))),
+    (rows.count_killing, (LOT, 2), ((NO_LOT,), (NUMBER,))), (rows.rows_of, (LOT, 2), ((NO_LOT,), (NUMBER,))),
+    (rows.killing_rows, (LOT, X, 2), ((NO_LOT, NO_LINE), (NO_LINE,), (NUMBER,))),
+    (rows.parted, (LOT, X, ROW), ((NO_LOT, NO_LINE, NO_ROW), (NO_LINE,), (NO_ROW,))),
+    (rows.led_row, (0, ROW, (X, Y, Z)), ((NUMBER, NO_ROW), (NO_ROW,), ("InvalidTable", "Refused"))),
+    (rows.least_degree, (LOT,), ((NO_LOT,),)), (rows.far_count, (LOT, 2), ((NO_LOT,), (NUMBER,))),
+    (lambda lot: list(rows.each_count(lot)), (LOT,), ((NO_LOT,),)),
+    (slopes.slopes, (LOT,), ((NO_LOT,),)), (slopes.is_relation, (LOT, ROW), ((NO_LOT,), ())),
+    (slopes.factor_of, (LOT, ROW), ((NO_LOT, NO_ROW), (NO_ROW,))), (slopes.relation_of, (LOT, ROW), ((NO_LOT, NO_ROW), (NO_ROW,))),
+    (slopes.row_with, (LOT, Form(0, 3), ZEROS), ((NO_LOT, "InvalidForm"), ("InvalidForm",), (NO_ROW,))),
+    (slopes.count_relations, (LOT, 2), ((NO_LOT,), (NUMBER,))), (slopes.count_left, (LOT, 2), ((NO_LOT, OPERATION), (NUMBER,))),
+    (press_lines.left_out, (5, X), ((NUMBER,), (NO_LINE,))),
+    (press_lines.spot_of, (0, X, Z), ((NUMBER,), (NO_LINE, OPERATION), ("InvalidPoint", OPERATION))),
+    (press_lines.marks_on, (LOT, X), ((NO_LOT, OPERATION), (NO_LINE, OPERATION))),
+    (press_lines.triples_on, (LOT, Z), ((NO_LOT, OPERATION), (NO_LINE, OPERATION))),
+    (press_pairs.is_pressed, (LOT, X, TWO[0]), ((NO_LOT,), (NO_LINE,), ())),
+    (press_pairs.count_pressed, (LOT, X, 2), ((NO_LOT,), (NO_LINE,), (NUMBER,))),
+    (press_pairs.degrees_on, (LOT, X), ((NO_LOT,), (NO_LINE,))), (press_pairs.gap, (LOT, X), ((NO_LOT,), (NO_LINE,))),
+    (press_pairs.two_pressed, (LOT, X), ((NO_LOT,), (NO_LINE,))),
+    (press_pairs.are_two_pressed, (LOT, X, TWO), ((NO_LOT,), (NO_LINE,), ())),
+    (press_pairs.bar_on, (LOT, X), ((NO_LOT,), (NO_LINE,))), (press_pairs.is_bar, (LOT, X, TWO), ((NO_LOT,), (NO_LINE,), ())),
+    (press_pairs.press, (LOT, X, ROW), ((NO_LOT, NO_ROW), (NO_LINE,), (NO_ROW,))),
+    (press_pairs.curve_of, (GENERIC, (1, 5, 7), PRESSED), ((NO_LOT, NO_LINE, PAIR), (NO_LINE, PAIR), (PAIR,))),
+    (press_pairs.is_curve, (GENERIC, (1, 5, 7), Form(0, 3)), ((NO_LOT, OPERATION, NO_LINE), (NO_LINE, OPERATION), ())),
+    (free.is_free, (LOT,), ((NO_LOT,),)), (free.degrees_of, (LOT,), ((NO_LOT,),)), (free.free_rows, (LOT,), ((NO_LOT,),)),
+    (free.are_free_rows, (LOT, FREE), ((NO_LOT,), ())), (free.number_of_rows, (LOT, FREE), ((NO_LOT, OPERATION), (OPERATION,))),
+    (free.told_by_rows, (LOT, FREE, ROW), ((NO_LOT, OPERATION), (OPERATION,), (NO_ROW, "Refused"))),
+    (free.row_made, (LOT, FREE, ZEROS), ((NO_LOT, OPERATION), (OPERATION,), (OPERATION,))),
+    (free.reduced_rows, (LOT, FREE, 5), ((NO_LOT, OPERATION), (OPERATION,), (NUMBER,))),
 )
 
 
@@ -78,8 +140,8 @@ class ConventionsTest(Checks, unittest.TestCase):
                 for value in wrong_values():
                     alone = (*arguments[:at], value, *arguments[at + 1:])
                     name, kept = outcome(call, *alone)
-                    # Only errors of the parameter itself come before those of later ones.
-                    if name == "returned" or name in ("Refused", OPERATION) and told[at][0] != name:
+                    # Only errors of the parameter itself, the first that is told, come before those of later ones.
+                    if name == "returned" or told[at][0] != name:
                         continue
                     both = (*alone[:later], None, *alone[later + 1:])
                     self.assertEqual(outcome(call, *both)[0], name, (call, both))
@@ -101,6 +163,8 @@ class ConventionsTest(Checks, unittest.TestCase):
             return [value.prime, value.letters, str(value)]
         if isinstance(value, Lot):
             return [value.prime, value.lines, value.points]
+        if isinstance(value, Marks):
+            return [value.prime, list(value.counts.items())]
         if isinstance(value, (tuple, list)):
             return [type(value).__name__, *[self.shown(one) for one in value]]
         return value
@@ -110,7 +174,7 @@ class ConventionsTest(Checks, unittest.TestCase):
             self.assertEqual(repr(self.shown(outcome(call, *arguments))), repr(self.shown(outcome(call, *arguments))))
 
     def test_judging_functions_return_true_or_false(self):
-        for module in (numbers, tables, forms, products, lines, lots, primes):
+        for module in (numbers, tables, forms, products, lines, lots, primes, pairs, euclid, places, rows, slopes, free, press_pairs):
             for name, call in vars(module).items():
                 if name.startswith(("is_", "are_", "has_")) and inspect.isfunction(call):
                     for told, arguments, _ in CALLS:
@@ -121,7 +185,7 @@ class ConventionsTest(Checks, unittest.TestCase):
                                     self.assertIs(type(call(*arguments[:-1], value)), bool)
 
     def test_generators_raise_late(self):
-        for made in (forms.monomials(9, 9), lines.each_line(9), primes.each_off(9)):
+        for made in (forms.monomials(9, 9), lines.each_line(9), primes.each_off(9), rows.each_count(9)):
             self.assertTrue(inspect.isgenerator(made))
             self.assertIn(outcome(next, made)[0], ("InvalidNumber", "InvalidLot"))
 

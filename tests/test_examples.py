@@ -6,7 +6,12 @@ from support import Checks, check_examples
 from tangentrows import errors
 from tangentrows.base import numbers, tables
 from tangentrows.form import forms, products
+from tangentrows.free import free
+from tangentrows.mark import euclid, marks, pairs, places
 from tangentrows.plane import lines, lots, primes
+from tangentrows.press import lines as press_lines
+from tangentrows.press import pairs as press_pairs
+from tangentrows.row import rows, slopes
 
 LOTS = """
 >>> BRAID = Lot(0, ((1, 0, 0), (0, 1, 0), (0, 0, 1), (1, -1, 0), (1, 0, -1), (0, 1, -1)))
@@ -74,6 +79,114 @@ MODULO = """
 raises Refused(("fall", (1, -1, 0), (1, 2, 0)))
 """
 
+MARKS = """
+>>> EVEN = Marks(0, {(1, 0): 3, (0, 1): 3, (1, 1): 1, (1, -1): 1})
+>>> SKEW = Marks(0, {(1, 0): 3, (0, 1): 3, (1, 1): 1, (1, 2): 1})
+>>> TWOS = Marks(2, {(1, 0): 2, (0, 1): 2, (1, 1): 2})
+>>> [degrees(marks) for marks in (EVEN, SKEW, TWOS, Marks(5, {}))], [count_pairs(EVEN, degree) for degree in (2, 3, 4, 5)], str(SKEW)
+([(3, 5), (4, 4), (2, 4), (0, 0)], [0, 1, 2, 4], '4 spots, 8 in all, over 0')
+>>> [[str(form) for form in pair] for pair in pairs_of(EVEN, 3)]
+[['x^3', 'y^3']]
+>>> FIRST = pairs_of(EVEN, 3)[0]
+>>> SECOND = (Form(0, 2), Form(0, 2, {(2, 3): 1, (0, 5): -1}))
+>>> FIFTH = (Form(0, 2, {(3, 2): 1}), Form(0, 2, {(2, 3): 1}))
+>>> are_two(EVEN, (FIRST, SECOND)), [str(part) for part in told_by(EVEN, (FIRST, SECOND), FIFTH)], is_pair(EVEN, FIFTH[::-1])
+(True, ['y^2', '1', '1'], False)
+>>> [degrees(EVEN.raised((1, 1))), degrees(EVEN.raised((1, 2))), degrees(EVEN.lowered((1, 0))), EVEN.led(((1, 1), (0, 1))).spots]
+[(4, 5), (4, 5), (3, 4), ((0, 1), (1, -2), (1, -1), (1, 0))]
+"""
+
+DIVISION = """
+>>> THREE = Marks(0, {(1, 0): 2, (1, -1): 1, (1, 1): 1})
+>>> [str(contact(THREE)[0]), contact(THREE)[1], [[str(form) for form in pair] for pair in divided(THREE)]]
+['x^3', 1, [['x^4 - x^2y^2', '0'], ['x^3', 'y^3'], ['x^2', 'xy'], ['0', 'x^2 - y^2']]]
+>>> turn_of(THREE), degrees_by_division(THREE), [[str(form) for form in pair] for pair in pairs_by_division(THREE)]
+(2, (2, 2), [['x^2', 'xy'], ['0', 'x^2 - y^2']])
+>>> HARMONIC = Marks(0, {(1, -1): 3, (1, 1): 3, (1, -2): 1, (2, -1): 1})
+>>> [degrees_by_division(HARMONIC), turn_of(HARMONIC), [str(form) for form in pairs_by_division(HARMONIC)[0]], contact(HARMONIC)[1]]
+[(3, 5), 4, ['5x^3 - 12x^2y + 15xy^2 - 4y^3', '-4x^3 + 15x^2y - 12xy^2 + 5y^3'], 72]
+>>> PLAIN = (Form(0, 2, {(1, 0): 1}), Form(0, 2, {(0, 1): 1}))
+>>> SIMPLE = Marks(0, {(1, 0): 1, (1, -1): 1, (1, 1): 1})
+>>> [rest_at(SIMPLE, PLAIN, (1, 0)), rest_at(SIMPLE, PLAIN, (1, 2)), are_two(SIMPLE.raised((1, 0)), grown(SIMPLE, pairs_by_division(SIMPLE), (1, 0)))]
+[1, 0, True]
+>>> divided(Marks(0, {(0, 1): 2}))
+raises Refused(("end",))
+"""
+
+PLACES = """
+>>> X, Y, PLUS1, MINUS1 = (1, 0), (0, 1), (1, 1), (1, -1)
+>>> [cross_ratio(0, (X, Y, PLUS1, MINUS1)), is_harmonic(0, (X, PLUS1, Y, MINUS1)), cross_ratio(5, (X, Y, (1, 1), (1, 2)))]
+[(1, -1), False, (1, 2)]
+>>> [gap_of_three(0, (2, 2, 2)), gap_of_three(2, (2, 2, 2)), gap_of_three(3, (3, 3, 2)), gap_of_three(7, (9, 2, 2))]
+[0, 2, 2, 5]
+>>> [degrees_by_counts(Marks(2, {X: 2, Y: 2, PLUS1: 2})), degrees_by_counts(Marks(0, {X: 2, Y: 2, PLUS1: 2, MINUS1: 1})), degrees_by_counts(Marks(0, {X: 3, Y: 3, PLUS1: 1, MINUS1: 1}))]
+[(2, 4), (3, 4), None]
+>>> FOUR = Marks(7, {X: 3, Y: 3, (1, 1): 1, (1, 2): 1})
+>>> [is_special(FOUR), special_places(FOUR, (1, 2)), is_special(Marks(0, {X: 3, Y: 3, PLUS1: 1, MINUS1: 1}))]
+[False, ((1, 6),), True]
+>>> [widened(Marks(2, {X: 1, Y: 1, PLUS1: 1})).counts, [str(form) for form in widened_pair(2, (Form.read(2, 2, "x"), Form.read(2, 2, "y")))]]
+[{(0, 1): 2, (1, 0): 2, (1, 1): 2}, ['x^2', 'y^2']]
+"""
+
+ROWS = """
+>>> [[count_killing(lot, k) for k in range(6)] for lot in (BRAID, FIVE, FAN)], far_count(BRAID, 5), list(each_count(FIVE))
+([[0, 0, 1, 4, 9, 16], [0, 0, 0, 4, 10, 18], [0, 0, 1, 3, 6, 12]], 16, [0, 0, 0, 4])
+>>> [least_degree(lot) for lot in (BRAID, FIVE, PLUS, FANO)], [count_rows(BRAID, k) for k in range(4)]
+([2, 3, 3, 2], [0, 1, 4, 10])
+>>> squares = (Form.read(0, 3, "x^2"), Form.read(0, 3, "y^2"), Form.read(0, 3, "z^2"))
+>>> q, rest = parted(BRAID, (0, 0, 1), squares)
+>>> is_tangent(BRAID, squares), str(q), [str(form) for form in rest], killing_rows(BRAID, (0, 0, 1), 2) == (rest,)
+(True, 'z', ['x^2 - xz', 'y^2 - yz', '0'], True)
+>>> [str(form) for form in led_row(0, squares, ((1, 1, 0), (0, 1, 0), (0, 0, 1)))]
+['x^2 - 2xy + 2y^2', 'y^2', 'z^2']
+"""
+
+SLOPES = """
+>>> TRI = Lot(0, ((1, 0, 0), (0, 1, 0), (0, 0, 1)))
+>>> X, Y, NIL = Form.read(0, 3, "x"), Form.read(0, 3, "y"), Form(0, 3)
+>>> [str(one) for one in slopes(TRI)], is_relation(TRI, (X, -Y, NIL)), is_relation(TRI, plain(0)), str(factor_of(TRI, plain(0)))
+(['yz', 'xz', 'xy'], True, False, '3')
+>>> str(factor_of(TRI, (X, NIL, NIL))), [str(one) for one in relation_of(TRI, (X, NIL, NIL))]
+('1', ['2x', '-y', '-z'])
+>>> [count_relations(TRI, degree) for degree in range(4)], [count_relations(BRAID, degree) for degree in range(5)]
+([0, 2, 6, 12], [0, 0, 1, 4, 9])
+>>> [count_left(TRI, degree) for degree in range(5)], [count_left(FIVE, degree) for degree in range(4, 9)], FIVE.squares
+([1, 3, 3, 3, 3], [12, 12, 10, 10, 10], 10)
+>>> relation_of(Lot(3, TRI.lines), plain(3))
+raises InvalidOperation
+"""
+
+FREE = """
+>>> [is_free(lot) for lot in (FAN, PLUS)], [degrees_of(lot) for lot in (BRAID, FIVE, FANO, Lot(0, ((1, 2, 3),)))]
+([False, True], [(2, 3), None, (2, 4), (0, 0)])
+>>> def powers(degree):
+...     return tuple([Form.read(0, 3, letter).power(degree) for letter in ("x", "y", "z")])
+>>> TWO = (powers(2), powers(3))
+>>> [are_free_rows(BRAID, TWO), are_free_rows(BRAID, (powers(2), powers(4))), are_free_rows(BRAID, free_rows(BRAID)), number_of_rows(BRAID, TWO), number_of_rows(BRAID, TWO[::-1])]
+[True, False, True, -1, 1]
+>>> q, u, v, scale = told_by_rows(BRAID, TWO, powers(4))
+>>> [str(q), str(u), str(v), scale, row_made(BRAID, TWO, (q, u, v)) == powers(4)]
+['xyz', '-xy - xz - yz', 'x + y + z', 1, True]
+>>> are_free_rows(reduced(BRAID, 2), reduced_rows(BRAID, TWO, 2))
+True
+>>> free_rows(FIVE)
+raises Refused(('not free',))
+"""
+
+PRESSED = """
+>>> [degrees_on(BRAID, line) for line in ((1, 0, 0), (1, 1, 0), (1, 5, 7))], [gap(FIVE, line) for line in ((1, 0, 0), (1, -1, 0), (1, 5, 7))], [degrees_on(FAN, line) for line in ((1, 0, 0), (0, 0, 1))]
+([(2, 3), (2, 3), (2, 3)], [3, 2, 2], [(2, 4), (1, 5)])
+>>> [left_out(0, line) for line in ((1, 5, 7), (1, 4, 0), (1, 0, 0))], spot_of(0, (0, 0, 1), (3, -1, 0)), marks_on(FAN, (1, 0, 0)).counts
+([2, 1, 0], (1, 3), {(0, 1): 1, (1, 0): 4, (3, 1): 1})
+>>> triples_on(FIVE, (0, 1, 2))
+{(0, 1): ((0, -1, 1), (0, 2, 0)), (1, 0): ((2, 0, 0),), (2, 1): ((2, 1, 1), (2, 1, 3))}
+>>> LINEAR = Form(0, 2, {(1, 0): 2, (0, 1): 1})
+>>> [is_pressed(FIVE, (0, 1, 2), (Form(0, 2), form)) for form in (LINEAR, LINEAR * Form(0, 2, {(0, 1): 1}))], [bar_on(BRAID, (1, 1, 0)), count_pressed(FIVE, (1, 5, 7), 2)]
+([False, True], [None, 2])
+>>> [str(form) for form in press(BRAID, (1, 1, 0), (Form(0, 3, {(1, 0, 0): 1}), Form(0, 3, {(0, 1, 0): 1}), Form(0, 3, {(0, 0, 1): 1})))]
+['0', '0']
+"""
+
 
 def names_of(*modules):
     """The names of some modules in one dict."""
@@ -100,6 +213,40 @@ class ExamplesTest(Checks, unittest.TestCase):
 
     def test_lots_modulo_a_prime(self):
         check_examples(self, names_of(lots, primes), LOTS + MODULO.lstrip("\n"))
+
+    def test_marks(self):
+        check_examples(self, names_of(forms, marks, pairs), MARKS)
+
+    def test_division(self):
+        check_examples(self, names_of(forms, marks, pairs, euclid), DIVISION)
+
+    def test_places(self):
+        check_examples(self, names_of(forms, marks, places), PLACES)
+
+    def test_rows(self):
+        check_examples(self, names_of(forms, lots, rows), LOTS + ROWS.lstrip("\n"))
+
+    def test_slopes(self):
+        check_examples(self, names_of(forms, lots, rows, slopes), LOTS + SLOPES.lstrip("\n"))
+
+    def test_free(self):
+        check_examples(self, names_of(forms, lots, primes, free), LOTS + FREE.lstrip("\n"))
+
+    def test_pressed(self):
+        check_examples(self, names_of(forms, lots, press_lines, press_pairs), LOTS + PRESSED.lstrip("\n"))
+
+    def test_what_is_said_of_the_lots(self):
+        names = names_of(lots, primes, free, press_pairs)
+        check_examples(self, names, LOTS)
+        told = {"BRAID": (2, 3), "PLUS": (3, 3), "FANO": (2, 4), "FIVE": None, "FAN": None}
+        for name, pair in told.items():
+            lot = names[name]
+            self.assertEqual(free.degrees_of(lot), pair, name)
+            self.assertEqual(free.is_free(lot), pair is not None, name)
+            for line in ((1, 0, 0), (0, 0, 1), (1, 1, 0), (1, 0, 1)):
+                self.assertEqual(press_pairs.gap(lot, line) == 0, pair is not None, (name, line))
+        self.assertEqual(names["FAN"].rest, 9)
+        self.assertEqual(free.degrees_of(primes.reduced(names["FIVE"], 2)), (2, 2))
 
     def test_what_is_said_of_them(self):
         names = names_of(lots, primes)

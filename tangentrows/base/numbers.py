@@ -31,6 +31,12 @@ def need_finite(prime):
         raise InvalidNumber(prime)
 
 
+def need_between(number, least, most):
+    """Raise the error for a value that is no integer in these bounds."""
+    if not is_integer(number) or not least <= number <= most:
+        raise InvalidNumber(number)
+
+
 def fits(prime, value):
     """Whether the value is a number over a prime that was checked."""
     return is_integer(value) and (prime == 0 or 0 <= value < prime)
@@ -50,6 +56,14 @@ def is_number(prime, value):
 def settled(prime, number):
     """The number over the prime that an integer stands for."""
     return number % prime if prime else number
+
+
+def powers_of(prime, number, most):
+    """The list of the powers of a number, from the power 0 to the power that is told."""
+    powers = [1]
+    for at in range(most):
+        powers.append(settled(prime, powers[at] * number))
+    return powers
 
 
 def inverse_of(prime, number):

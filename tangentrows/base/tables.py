@@ -65,6 +65,20 @@ def steps_of(prime, rows):
     return steps
 
 
+def without_steps(prime, steps, row):
+    """A multiple of the row less a mix of the steps, which has 0 wherever one of the steps begins."""
+    rest = row
+    for start in sorted(steps):
+        if rest[start] != 0:
+            rest = lowered(prime, rest, steps[start], start)
+    return rest
+
+
+def rank_of(prime, rows):
+    """The rank of rows whose integers can have any size."""
+    return len(steps_of(prime, rows))
+
+
 def echelon_of(prime, rows):
     """The echelon of rows whose integers can have any size."""
     steps = steps_of(prime, rows)
@@ -112,7 +126,7 @@ def kernel_of(prime, rows, width):
 def rank(prime, table):
     """The least number of rows of which all rows are mixes."""
     need_table(prime, table)
-    return len(steps_of(prime, table))
+    return rank_of(prime, table)
 
 
 def echelon(prime, table):
@@ -126,12 +140,7 @@ def is_mix(prime, table, value):
     need_table(prime, table)
     if not all_fit(prime, value, len(table[0])):
         return False
-    steps = steps_of(prime, table)
-    rest = value
-    for start in sorted(steps):
-        if rest[start] != 0:
-            rest = lowered(prime, rest, steps[start], start)
-    return not any(rest)
+    return not any(without_steps(prime, steps_of(prime, table), value))
 
 
 def kernel(prime, table):

@@ -1,6 +1,6 @@
 """Forms in two or three letters over a prime."""
 
-from tangentrows.base.numbers import all_fit, fits, is_integer, need_prime
+from tangentrows.base.numbers import all_fit, fits, is_integer, need_between, need_prime
 from tangentrows.errors import InvalidForm, InvalidNumber, InvalidOperation, ParseError, Refused, TooMany, UnknownName
 from tangentrows.form.terms import added, are_exponents, are_terms, degree_of, descending, divided, exponents_of
 from tangentrows.form.terms import multiplied, normal_terms, replaced, scaled, slope_of, unit, value_of
@@ -145,8 +145,7 @@ class Form:
 
     def power(self, many):
         """The form, multiplied with itself, so many factors."""
-        if not is_integer(many) or not 0 <= many <= MAX_DEGREE:
-            raise InvalidNumber(many)
+        need_between(many, 0, MAX_DEGREE)
         if self and self.degree * many > MAX_DEGREE:
             raise TooMany(MAX_DEGREE)
         table = unit(self._letters)
@@ -243,7 +242,6 @@ class Form:
 def monomials(letters, degree):
     """The exponents of all terms of a degree, descending."""
     need_letters(letters)
-    if not is_integer(degree) or not 0 <= degree <= MAX_DEGREE:
-        raise InvalidNumber(degree)
+    need_between(degree, 0, MAX_DEGREE)
     for exponents in exponents_of(letters, degree):
         yield exponents

@@ -98,6 +98,13 @@ def join(prime, one, other):
     return crossed(prime, one, other)
 
 
+def letters_of(line):
+    """The indices of the two letters that a line keeps, and of the letter that it leaves out."""
+    if line[2] != 0:
+        return 0, 1, 2
+    return (0, 2, 1) if line[1] != 0 else (1, 2, 0)
+
+
 def triples_over(prime):
     """All normal triples over a prime other than 0, ascending."""
     found = [(0, 0, 1)]

@@ -1,0 +1,1 @@
+"""Rows of forms that are tangent to lots."""
