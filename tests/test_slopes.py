@@ -6,7 +6,7 @@ import unittest
 
 from support import Checks, wrong_values
 from test_forms import plain_product, some_form
-from test_lines import plain_triples, some_triples
+from test_lines import plain_triples
 from test_lots import BRAID, FIVE, GENERAL, X, Y, Z
 from test_rows import HUGE, TRI, any_row, degree_of, number3, plus, powers, read, row, some_lots, some_mix, sum_at, times, zeros
 from tangentrows.base.tables import echelon_of
