@@ -8,7 +8,7 @@ from math import gcd
 from support import Checks, wrong_values
 from test_forms import some_form
 from test_lines import plain_triples, some_triples
-from test_lots import BRAID, FIVE, GENERAL, PENCIL, X, Y, Z
+from test_lots import BRAID, FIVE, GENERAL, PENCIL, X, Z
 from test_primes import FAN, PLUS
 from test_rows import HUGE, TRI, degree_of, number3, plus, powers, read, row, some_lots, some_mix, times, zeros
 from tangentrows.errors import InvalidLot, InvalidNumber, InvalidOperation, InvalidRow, Refused, TooMany

@@ -21,6 +21,9 @@ WORDS = set("""type typing typing_extensions enum Enum IntEnum StrEnum Flag IntF
 DUNDERS = set("""__init__ __eq__ __repr__ __str__ __len__ __enter__ __exit__ __call__ __iter__ __add__ __sub__ __mul__ __or__ __neg__
     __bool__ __contains__ __getitem__""".split())
 NODES = (ast.Global, ast.AsyncFunctionDef, ast.AsyncFor, ast.AsyncWith, ast.Await, ast.Div, ast.Import, ast.MatMult)
+# The subset lets these in some places; this package does without them.
+AVOIDED = (ast.AugAssign, ast.GeneratorExp, ast.Lambda, ast.Try, ast.With, ast.Match, ast.NamedExpr, ast.AnnAssign, ast.Nonlocal)
+PASSING = ("zip", "enumerate", "reversed", "range", "map", "iter", "items", "keys", "values")
 
 
 def module_of(path):
@@ -130,6 +133,33 @@ class LanguageTest(unittest.TestCase):
                     self.assertLessEqual({one.id for one in node.decorator_list}, {"property", "classmethod"})
                     if node.name.startswith("__"):
                         self.assertIn(node.name, DUNDERS)
+
+    def test_kinds_of_code_that_are_avoided(self):
+        for path, text, tree in self.each():
+            for node in ast.walk(tree):
+                self.assertNotIsInstance(node, AVOIDED)
+                if isinstance(node, ast.FunctionDef):
+                    inner = [one for one in ast.walk(node) if isinstance(one, (ast.FunctionDef, ast.ClassDef))]
+                    self.assertEqual(inner, [node])
+                if isinstance(node, ast.Starred):
+                    self.assertIsInstance(node.value, (ast.Name, ast.Attribute), (path, node.lineno))
+
+    def test_what_is_iterated_at_once(self):
+        for path, text, tree in self.each():
+            let = set()
+            for node in ast.walk(tree):
+                if isinstance(node, (ast.For, ast.comprehension)):
+                    let.add(id(node.iter))
+                if isinstance(node, ast.Call) and isinstance(node.func, ast.Name):
+                    if node.func.id in ("list", "tuple", "dict", "sorted", "sum", "any", "all", "enumerate", "zip", "min", "max", "len"):
+                        let |= {id(one) for one in node.args[:1]}
+                if isinstance(node, ast.FunctionDef) and node.name == "__iter__":
+                    let |= {id(one) for one in ast.walk(node)}
+            for node in ast.walk(tree):
+                if isinstance(node, ast.Call):
+                    name = getattr(node.func, "id", None) or getattr(node.func, "attr", None)
+                    if name in PASSING:
+                        self.assertIn(id(node), let, (path, node.lineno))
 
     def test_names(self):
         own = set()

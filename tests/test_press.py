@@ -395,6 +395,9 @@ class PressTest(Checks, unittest.TestCase):
         for line in ((1, 1, 0), (1, 5, 7)):
             self.assert_raises(TooMany(40), press, BRAID, line, powers(40))
             self.assert_raises(TooMany(40), press, BRAID, line, tuple(letter * Form(0, 3, {(39, 0, 0): 1}) for letter in plain(0)))
+            # On some lines the two forms of which the first one is made are zero.
+            third = product_of(0, 3, tuple(linear(0, one) for one in (Z, (1, 0, -1), (0, 1, -1)))) * Form(0, 3, {(37, 0, 0): 1})
+            self.assert_raises(TooMany(40), press, BRAID, line, (Form(0, 3), Form(0, 3), third))
             value = row_times(powers(2), Form(0, 3, {(1, 0, 36): HUGE % 10 ** 59}))
             self.assertIs(is_pressed(BRAID, line, press(BRAID, line, value)), True)
 

@@ -354,7 +354,8 @@ class LedTest(Checks, unittest.TestCase):
             if not isinstance(value, tuple) or len(value) != 3 or value[0] != read("x"):
                 self.assert_raises(InvalidRow, led_row, 0, value, None)
         for table in (None, 1, "x", (), [], unit[:2], list(unit), (X, Y, [0, 0, 1]), ((1, 0), (0, 1)), (X, Y, Z, X), (X, Y, (0, 0, True)),
-                      (X, Y, (0, 0, None)), (X, Y, (0, 0, 10 ** 60)), {}, BRAID):
+                      (X, Y, (0, 0, None)), (X, Y, (0, 0, 10 ** 60)), {}, BRAID,
+                      tuple(tuple(int(i == j) for j in range(4)) for i in range(4))):
             self.assert_raises(InvalidTable, led_row, 0, powers(2), table)
         self.assert_raises(InvalidTable, led_row, 3, powers(2, 3), (X, Y, (0, 0, 3)))
         for table in ((X, X, Y), ((0, 0, 0),) * 3):

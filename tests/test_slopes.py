@@ -167,6 +167,10 @@ class RelationTest(Checks, unittest.TestCase):
         for factor, relation in (("x", one), ("x^2", one), ("1", times(one, read("x"))), ("x^40", one), ("1", times(one, read("x^39"))),
                                  ("x^40", times(one, read("x^39")))):
             self.assert_raises(InvalidOperation, row_with, TRI, read(factor), relation)
+        pencil = Lot(0, (X, Y, (1, 1, 0)))
+        self.assertEqual(row_with(pencil, zero, row("0", "0", "5")), row("0", "0", "5"))
+        for factor in ("1", "x"):
+            self.assert_raises(InvalidOperation, row_with, pencil, read(factor), row("0", "0", "5"))
         self.assert_raises(TooMany(40), row_with, TRI, read("x^40"), zeros(0))
         self.assertEqual(row_with(TRI, read("x^39"), times(one, read("x^39"))), row("2x^40", "0", "x^39z"))
         self.assertEqual(row_with(TRI, read("5"), one), row("6x", "4y", "5z"))

@@ -1,6 +1,5 @@
 """Free lots, and the rows that tell all their tangent rows."""
 
-from tangentrows.base.numbers import need_finite
 from tangentrows.errors import InvalidOperation, InvalidRow, Refused, TooMany
 from tangentrows.form.forms import MAX_DEGREE, degree_of_all, is_form, made
 from tangentrows.form.products import determinant_of
@@ -30,10 +29,8 @@ def are_free_in(lot, value):
     if not isinstance(value, tuple) or len(value) != 2 or not all([is_tangent_row(lot, row) for row in value]):
         return False
     sizes = [degree_of_all(row) for row in value]
-    if min(sizes) < 0 or sum(sizes) != lot.many - 1:
-        return False
     # With this sum of degrees the determinant is a number, times the product of the lines.
-    return bool(determinant_with_plain(lot, value[0], value[1]))
+    return sum(sizes) == lot.many - 1 and bool(determinant_with_plain(lot, value[0], value[1]))
 
 
 def need_free_rows(lot, two):
@@ -114,8 +111,7 @@ def row_made(lot, two, parts):
     sizes = [form.degree + degree_of_all(row) for form, row in zip(parts, rows) if form]
     if sizes and min(sizes) != max(sizes):
         raise InvalidOperation("the summands have unlike degrees")
-    if sizes and sizes[0] > MAX_DEGREE:
-        raise TooMany(MAX_DEGREE)
+    # The products raise the error for a row of too great a degree.
     first, second, third = [times_all(row, form) for form, row in zip(parts, rows)]
     return sum_of_all(sum_of_all(first, second), third)
 
@@ -129,7 +125,6 @@ def form_modulo(form, prime):
 def reduced_rows(lot, two, prime):
     """Two free rows of a lot over 0 modulo a prime."""
     need_free_rows(lot, two)
-    need_finite(prime)
     reduced(lot, prime)
     number = number_in(lot, two)
     if number % prime == 0:

@@ -26,8 +26,6 @@ def need_no_end(marks):
 def contact_of(marks):
     """The numbers of the contact, descending, and its denominator behind them, for marks that were checked."""
     prime, total = marks.prime, marks.total
-    if total == 0:
-        return (1,)
     # Of the second form only the number of the last power of y can be other than 0.
     rows = [row[:total] + row[-1:] for row in pair_rows(marks, total - 1)]
     numbers = kernel_of(prime, rows, total + 1)[0]
@@ -60,9 +58,8 @@ def degrees_in(row):
 
 def shifted(row, many):
     """The row of both polynomials, multiplied by so high a power of the letter."""
-    half = len(row) // 2
-    zeros = (0,) * many
-    return row[many:half] + zeros + row[half + many:] + zeros
+    # The second one has so low a degree that none of its numbers gets among those of the first one.
+    return row[many:] + (0,) * many
 
 
 def remainder(prime, upper, lower):
@@ -70,8 +67,7 @@ def remainder(prime, upper, lower):
     start = start_of(lower)
     rest = upper
     for at in range(start + 1):
-        if rest[at] != 0:
-            rest = lowered(prime, rest, shifted(lower, start - at), at)
+        rest = lowered(prime, rest, shifted(lower, start - at), at)
     return made_normal(prime, rest)
 
 
@@ -200,7 +196,6 @@ def grown(marks, two, spot):
     need_marks(marks)
     if not are_two_of(marks, two):
         raise InvalidPair("no two pairs that tell all others")
-    need_spot(marks.prime, spot)
     marks.raised(spot)
     return grown_from(marks, two, spot)
 

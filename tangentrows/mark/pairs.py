@@ -68,7 +68,7 @@ def are_two_of(marks, value):
         return False
     sizes = [degree_of_all(pair) for pair in value]
     # With this sum of degrees the determinant is a number, times the product of the marks.
-    return min(sizes) >= 0 and sum(sizes) == marks.total and bool(determinant_of_pairs(value[0], value[1]))
+    return sum(sizes) == marks.total and bool(determinant_of_pairs(value[0], value[1]))
 
 
 def counted_in(low, high, degree):
@@ -84,7 +84,7 @@ def apart_from(first, pairs):
 def degrees_of_marks(marks):
     """The degrees of marks that were checked."""
     # Below half of the total only multiples of the pair of the lesser degree are tangent.
-    half = (marks.total + 1) // 2
+    half = marks.total // 2
     low = rank_of(marks.prime, pair_rows(marks, half - 1)) - half
     return low, marks.total - low
 

@@ -22,10 +22,10 @@ def bracket(one, other):
 def cross_ratio(prime, spots):
     """The cross ratio of four spots, a normal pair."""
     need_prime(prime)
-    if not isinstance(spots, tuple) or len(spots) != 4 or not all([is_spot(prime, spot) for spot in spots]):
-        raise InvalidOperation("no tuple of four spots")
-    if len(set(spots)) != 4:
-        raise InvalidOperation("the spots are not unlike")
+    if not isinstance(spots, tuple) or not all([is_spot(prime, spot) for spot in spots]):
+        raise InvalidOperation("no tuple of spots")
+    if len(spots) != 4 or len(set(spots)) != 4:
+        raise InvalidOperation("there are not four unlike spots")
     a, b, c, d = spots
     numbers = (bracket(a, c) * bracket(b, d), bracket(a, d) * bracket(b, c))
     return made_normal(prime, [settled(prime, number) for number in numbers])

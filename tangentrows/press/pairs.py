@@ -95,7 +95,7 @@ def degrees_in(lot, line):
     if line in lot:
         return degrees_of_marks(marks_in(lot, line))
     # Below half of the sum of the degrees only multiples of the pair of the lesser degree are pressed.
-    half = lot.many // 2
+    half = (lot.many - 1) // 2
     low = rank_of(lot.prime, off_rows(lot, line, half - 1)) - half - 1
     return low, lot.many - 1 - low
 
@@ -123,10 +123,8 @@ def are_two_in(lot, line, value):
     if not all([is_pressed_pair(lot, line, pair) for pair in value]):
         return False
     sizes = [degree_on(lot, line, pair) for pair in value]
-    if min(sizes) < 0 or sum(sizes) != lot.many - 1:
-        return False
     # With this sum of degrees the determinant is a number, times the product that it is to be a multiple of.
-    return bool(determinant_of_pairs(value[0], value[1]))
+    return sum(sizes) == lot.many - 1 and bool(determinant_of_pairs(value[0], value[1]))
 
 
 def is_bar_in(lot, line, value):

@@ -55,7 +55,7 @@ def need_row_table(prime, table):
 
 
 def plain_row(prime):
-    """The plain row over a prime that was checked."""
+    """The plain row; the linear forms raise the error for a prime that is none."""
     return linear(prime, (1, 0, 0)), linear(prime, (0, 1, 0)), linear(prime, (0, 0, 1))
 
 
@@ -141,7 +141,6 @@ def killing_number(lot, degree):
 
 def plain(prime):
     """The plain row."""
-    need_prime(prime)
     return plain_row(prime)
 
 

@@ -2,8 +2,8 @@
 
 from tangentrows.base.numbers import need_between, settled
 from tangentrows.base.tables import rank_of
-from tangentrows.errors import InvalidForm, InvalidOperation, InvalidRow, TooMany
-from tangentrows.form.forms import LETTERS, MAX_DEGREE, degree_of_all, is_form
+from tangentrows.errors import InvalidForm, InvalidOperation, InvalidRow
+from tangentrows.form.forms import LETTERS, degree_of_all, is_form
 from tangentrows.form.terms import added, exponents_of, multiplied
 from tangentrows.form.vectors import mixed, sum_of_all, times_all
 from tangentrows.plane.lots import need_lot
@@ -96,8 +96,7 @@ def row_with(lot, factor, relation):
     degree = degree_of_all(relation)
     if factor and degree >= 0 and degree != factor.degree + 1:
         raise InvalidOperation("the degree of the relation is not 1 more than that of the factor")
-    if factor and factor.degree == MAX_DEGREE:
-        raise TooMany(MAX_DEGREE)
+    # The product raises the error for a factor of the degree 40.
     return sum_of_all(times_all(plain_row(lot.prime), factor), relation)
 
 
