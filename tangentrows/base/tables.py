@@ -162,6 +162,26 @@ def sent(prime, table, numbers):
     return sent_by(prime, table, numbers)
 
 
+def told_numbers(prime, rows, target):
+    """A scale above 0 and a number for each row: the rows times these make the scale times a target, a mix of them."""
+    many, width = len(rows), len(target)
+    longer = []
+    for at, row in enumerate(rows):
+        told = [0] * (many + 1)
+        told[at] = 1
+        longer.append([*row, *told])
+    # Steps that begin further on tell only how zeros can be told.
+    steps = {start: step for start, step in steps_of(prime, longer).items() if start < width}
+    zeros = [0] * many
+    rest = without_steps(prime, steps, [*target, *zeros, 1])
+    return rest[-1], [settled(prime, -number) for number in rest[width:-1]]
+
+
+def spread(prime, row, factors):
+    """The row, multiplied by each of the factors, one behind the other."""
+    return [settled(prime, factor * number) for factor in factors for number in row]
+
+
 def minor(rows, row, column):
     """The rows without one row and one column."""
     kept = rows[:row] + rows[row + 1:]

@@ -72,6 +72,15 @@ def is_nonzero_somewhere(prime, letters, table, images):
     return False
 
 
+def table_told(prime, letters, value):
+    """The table of the form with a text over a prime in so many letters, or None for a value that is no such text."""
+    if not isinstance(value, str):
+        return None
+    names = LETTERS[:letters]
+    table = read_terms(names, value)
+    return table if are_terms(prime, letters, MAX_DEGREE, table) and write_terms(names, table) == value else None
+
+
 class Form:
     """A form, which never changes."""
 
@@ -89,9 +98,8 @@ class Form:
         """The form with a text."""
         need_prime(prime)
         need_letters(letters)
-        names = LETTERS[:letters]
-        table = read_terms(names, text) if isinstance(text, str) else None
-        if not are_terms(prime, letters, MAX_DEGREE, table) or write_terms(names, table) != text:
+        table = table_told(prime, letters, text)
+        if table is None:
             raise ParseError(0)
         return cls(prime, letters, table)
 

@@ -48,6 +48,18 @@ def digits_at(text, start, most):
     return text[start:end]
 
 
+def integer_span(text, start, most):
+    """Whether an integer of at most so many digits stands from an index on, and the index behind it.
+
+    If none does, the index is that of the first character with which none goes on.
+    """
+    at = start + 1 if text[start:start + 1] == "-" else start
+    if text[at:at + 1] == "0":
+        return (True, at + 1) if at == start else (False, at)
+    digits = digits_at(text, at, most)
+    return digits != "", at + len(digits)
+
+
 def read_term(letters, text):
     """The pair (exponents, number) of the text of a term, perhaps with a minus; any such pair for other texts."""
     at = 1 if text.startswith("-") else 0

@@ -3,7 +3,7 @@
 from math import comb
 
 from tangentrows.base.numbers import need_between, powers_of, settled
-from tangentrows.base.tables import kernel_of, rank_of
+from tangentrows.base.tables import kernel_of, rank_of, spread
 from tangentrows.errors import InvalidPair, TooMany
 from tangentrows.form.forms import degree_of_all
 from tangentrows.form.products import linear
@@ -40,7 +40,7 @@ def pair_rows(marks, degree):
     found = []
     for spot, count in marks.counts.items():
         for row in order_rows(prime, spot, count, degree):
-            found.append([settled(prime, factor * number) for factor in spot for number in row])
+            found.append(spread(prime, row, spot))
     return found
 
 

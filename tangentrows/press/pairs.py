@@ -2,14 +2,14 @@
 
 from tangentrows.base.numbers import need_between, powers_of, settled
 from tangentrows.base.tables import kernel_of, rank_of
-from tangentrows.errors import InvalidOperation, InvalidPair, InvalidRow, TooMany
+from tangentrows.errors import InvalidOperation, InvalidPair, TooMany
 from tangentrows.form.forms import MAX_DEGREE, degree_of_all, is_form, made
 from tangentrows.form.products import linear
-from tangentrows.form.vectors import determinant_of_pairs, forms_of, mixed, quotient_of, sum_of_all, times_all
+from tangentrows.form.vectors import determinant_of_pairs, forms_of, mixed, quotient_of
 from tangentrows.mark.pairs import apart_from, base_of, counted_in, degrees_of_marks, is_tangent_pair, order_rows
 from tangentrows.plane.lines import letters_of
 from tangentrows.press.lines import marks_in, need_lot_and_line, triple_in, triples_in
-from tangentrows.row.rows import is_tangent_row, plain_row, quotient_at
+from tangentrows.row.rows import need_tangent, quotient_at, without_plain
 
 MAX_PRESSED = 14
 
@@ -215,16 +215,14 @@ def is_bar(lot, line, value):
 def press(lot, line, row):
     """The pressed pair of a tangent row on the line."""
     need_lot_and_line(lot, line)
-    if not is_tangent_row(lot, row):
-        raise InvalidRow("no row that is tangent to the lot")
+    need_tangent(lot, row)
     if line not in lot and degree_of_all(row) == MAX_DEGREE:
         raise TooMany(MAX_DEGREE)
     prime = lot.prime
     one, other, _ = letters_of(line)
     images = images_on(prime, line)
     if line in lot:
-        less = times_all(plain_row(prime), -quotient_at(line, row))
-        killing = sum_of_all(row, less)
+        killing = without_plain(row, quotient_at(line, row))
         return killing[one].led(images), killing[other].led(images)
     upper, under = row[one].led(images), row[other].led(images)
     letters = (linear(prime, (1, 0)), linear(prime, (0, 1)))

@@ -3,7 +3,7 @@
 from math import comb
 
 from tangentrows.base.numbers import made_normal, need_between, need_prime, powers_of, settled
-from tangentrows.base.tables import is_square, kernel_of, rank_of, undone
+from tangentrows.base.tables import is_square, kernel_of, rank_of, spread, undone
 from tangentrows.errors import InvalidLine, InvalidRow, InvalidTable, TooMany
 from tangentrows.form.products import linear
 from tangentrows.form.terms import exponents_of
@@ -36,6 +36,12 @@ def is_tangent_row(lot, value):
     return True
 
 
+def need_tangent(lot, row):
+    """Raise the error for a row that is not tangent to a lot that was checked."""
+    if not is_tangent_row(lot, row):
+        raise InvalidRow("no row that is tangent to the lot")
+
+
 def need_few_lines(lot, most):
     """Raise the error for a lot that has more lines than so many."""
     if lot.many > most:
@@ -54,6 +60,11 @@ def need_row_table(prime, table):
         raise InvalidTable("no table of three rows of three numbers")
 
 
+def without_plain(row, form):
+    """The row less the form times the plain row."""
+    return sum_of_all(row, times_all(plain_row(row[0].prime), -form))
+
+
 def plain_row(prime):
     """The plain row; the linear forms raise the error for a prime that is none."""
     return linear(prime, (1, 0, 0)), linear(prime, (0, 1, 0)), linear(prime, (0, 0, 1))
@@ -64,22 +75,24 @@ def count_terms(degree):
     return (degree + 1) * (degree + 2) // 2 if degree >= 0 else 0
 
 
-def line_rows(prime, line, degree):
-    """Rows that send the numbers of a form in three letters of the degree to what the form becomes on a line.
+def line_rows(prime, line, degree, order=0):
+    """Rows that send the numbers of a form in three letters of the degree to what stands beside a power of a line.
 
     The kept letters become the number of the line at the letter that it leaves out, times x and y; the left out letter
-    becomes the negative of the numbers at the kept ones, times x and y.
+    becomes the form of the line, and the negative of the numbers at the kept ones, times x and y. Beside the power 0
+    of the line, the order that is told if none is passed, stands what the form becomes on the line.
     """
     one, other, out = letters_of(line)
     scale = powers_of(prime, line[out], degree)
     left, right = powers_of(prime, -line[one], degree), powers_of(prime, -line[other], degree)
     places = exponents_of(3, degree)
-    found = [[0] * len(places) for _ in range(degree + 1)]
+    found = [[0] * len(places) for _ in range(degree - order + 1)]
     for column, place in enumerate(places):
-        high = place[out]
+        high = place[out] - order
+        times = scale[degree - place[out]] * comb(place[out], order)
         for part in range(high + 1):
-            number = scale[degree - high] * comb(high, part) * left[part] * right[high - part]
-            found[degree - place[one] - part][column] = settled(prime, number)
+            number = times * comb(high, part) * left[part] * right[high - part]
+            found[degree - order - place[one] - part][column] = settled(prime, number)
     return found
 
 
@@ -91,7 +104,7 @@ def tangent_conditions(prime, lines, weights, degree):
     found = []
     for line, factors in zip(lines, weights):
         for row in line_rows(prime, line, degree):
-            found.append([settled(prime, factor * number) for factor in factors for number in row])
+            found.append(spread(prime, row, factors))
     return found
 
 
@@ -187,10 +200,9 @@ def parted(lot, line, row):
     """The pair of a form and of a row that kills a line of the lot, for a tangent row."""
     need_lot(lot)
     need_line_of(lot, line)
-    if not is_tangent_row(lot, row):
-        raise InvalidRow("no row that is tangent to the lot")
+    need_tangent(lot, row)
     form = quotient_at(line, row)
-    return form, sum_of_all(row, times_all(plain_row(lot.prime), -form))
+    return form, without_plain(row, form)
 
 
 def led_row(prime, row, table):

@@ -7,18 +7,12 @@ from tangentrows.form.forms import LETTERS, degree_of_all, is_form
 from tangentrows.form.terms import added, exponents_of, multiplied
 from tangentrows.form.vectors import mixed, sum_of_all, times_all
 from tangentrows.plane.lots import need_lot
-from tangentrows.row.rows import count_terms, is_row, is_tangent_row, killing_number, need_few_lines, plain_row
-from tangentrows.row.rows import quotient_at
+from tangentrows.row.rows import count_terms, is_row, killing_number, need_few_lines, need_tangent, plain_row
+from tangentrows.row.rows import quotient_at, without_plain
 
 MAX_LINES = 7
 MAX_RELATION = 4
 MAX_LEFT = 40
-
-
-def need_tangent(lot, row):
-    """Raise the error for a row that is not tangent to a lot that was checked."""
-    if not is_tangent_row(lot, row):
-        raise InvalidRow("no row that is tangent to the lot")
 
 
 def need_undivided(lot):
@@ -82,8 +76,7 @@ def relation_of(lot, row):
     need_lot(lot)
     need_tangent(lot, row)
     need_undivided(lot)
-    less = times_all(plain_row(lot.prime), -sum_at_lines(lot, row))
-    return sum_of_all(times_all(row, settled(lot.prime, lot.many)), less)
+    return without_plain(times_all(row, settled(lot.prime, lot.many)), sum_at_lines(lot, row))
 
 
 def row_with(lot, factor, relation):

@@ -1,0 +1,1 @@
+"""Modular points of lots, and free lots that grow line by line."""

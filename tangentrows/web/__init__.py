@@ -1,0 +1,1 @@
+"""Webs of ties between four points, and their lots."""
