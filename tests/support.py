@@ -1,9 +1,12 @@
 """What several tests need: errors with what they keep, wrong values, and the printed examples."""
 
 from tangentrows import errors
+from tangentrows.desk.desks import Desk
 from tangentrows.form.forms import Form
 from tangentrows.mark.marks import Marks
 from tangentrows.plane.lots import Lot
+from tangentrows.text.shell import Shell
+from tangentrows.web.webs import Web
 
 KEPT = {"InvalidNumber": "given", "UnknownName": "wanted", "TooMany": "most", "Refused": "reason",
         "NothingToUndo": "steps", "ParseError": "index"}
@@ -72,7 +75,8 @@ def wrong_values():
         Form(0, 2), Form(5, 3, {(1, 0, 0): 2}), (Form(0, 2), Form(0, 2)), [Form(0, 2)], {"form": Form(0, 3)},
         Lot(0, ((1, 0, 0),)), (Lot(0, ((1, 0, 0),)),), Lot(2, ((0, 1, 1), (1, 0, 0))), errors.InvalidForm("it"),
         Marks(0, {(1, 0): 2, (0, 1): 1}), (Marks(5, {}),), ((Form(0, 2), Form(0, 2)),) * 2, (Form(5, 3),) * 3,
-        (Form(0, 3, {(1, 0, 0): 1}), Form(0, 3), Form(0, 3)),
+        (Form(0, 3, {(1, 0, 0): 1}), Form(0, 3), Form(0, 3)), Web(((1, 2), (3, 4))), (Web(((1, 4),)),), Desk(Lot(0, ((1, 0, 0),))),
+        Desk(Lot(0, ((0, 1, 0),))).batch(), Shell(Lot(0, ((0, 0, 1),))),
     ]
 
 

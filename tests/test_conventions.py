@@ -7,16 +7,24 @@ import unittest
 
 from support import Checks, outcome, wrong_values
 from tangentrows.base import numbers, tables
+from tangentrows.chain import chains
+from tangentrows.count import counted
+from tangentrows.desk import desks, promises
+from tangentrows.desk.desks import Batch, Desk
 from tangentrows.form import forms, products
 from tangentrows.form.forms import Form
-from tangentrows.free import free
+from tangentrows.free import deeds, free
 from tangentrows.mark import euclid, marks, pairs, places
 from tangentrows.mark.marks import Marks
 from tangentrows.plane import lines, lots, primes
 from tangentrows.plane.lots import Lot
 from tangentrows.press import lines as press_lines
 from tangentrows.press import pairs as press_pairs
-from tangentrows.row import rows, slopes
+from tangentrows.row import generators, rows, slopes
+from tangentrows.text import formats, shell
+from tangentrows.text.shell import Shell
+from tangentrows.web import webs
+from tangentrows.web.webs import Web
 
 X, Y, Z = (1, 0, 0), (0, 1, 0), (0, 0, 1)
 XF, YF = Form(0, 2, {(1, 0): 1}), Form(0, 2, {(0, 1): 1})
@@ -29,6 +37,29 @@ TWO, SPOTS = pairs.two_pairs(MARKS), ((1, 0), (0, 1), (1, 1), (1, 2))
 ROW, ZEROS, FREE = rows.plain(0), (Form(0, 3),) * 3, free.free_rows(LOT)
 GENERIC = Lot(0, (X, Y, Z))
 PRESSED = press_pairs.two_pressed(GENERIC, (1, 5, 7))[0]
+WEB, COUNTS, PROMISE = Web(((1, 2), (3, 4))), {X: 2, Y: 1, (1, 1, 0): 1}, ("most", 3)
+NO_WEB, NO_PROMISE, NO_POINT, NO_FORM = "InvalidWeb", "InvalidPromise", "InvalidPoint", "InvalidForm"
+DEEDS = (("take", X),)
+
+
+def on_desk(name):
+    """A method of a new desk with a promise, as a function."""
+    def call(*values):
+        desk = Desk(LOT)
+        desk.promise(PROMISE)
+        return getattr(desk, name)(*values)
+    return call
+
+
+def on_batch(value):
+    return Desk(LOT).batch().put(value)
+
+
+def on_shell(name):
+    """A method of a new shell, as a function."""
+    return lambda *values: getattr(Shell(LOT), name)(*values)
+
+
 
 # Each call with arguments that are right, and for each parameter the errors that it can raise.
 CALLS = (
@@ -118,6 +149,53 @@ CALLS = (
     (free.told_by_rows, (LOT, FREE, ROW), ((NO_LOT, OPERATION), (OPERATION,), (NO_ROW, "Refused"))),
     (free.row_made, (LOT, FREE, ZEROS), ((NO_LOT, OPERATION), (OPERATION,), (OPERATION,))),
     (free.reduced_rows, (LOT, FREE, 5), ((NO_LOT, OPERATION), (OPERATION,), (NUMBER,))),
+    (deeds.whole_degrees, (LOT,), ((NO_LOT,),)), (deeds.point_counts, (LOT,), ((NO_LOT,),)), (deeds.points_paper, (LOT,), ((NO_LOT,),)),
+    (deeds.is_points_paper, (LOT, ("bundle",)), ((NO_LOT,), ())), (deeds.free_by_points, (LOT,), ((NO_LOT,),)),
+    (deeds.degrees_without, (LOT, X), ((NO_LOT, OPERATION), (NO_LINE, OPERATION))),
+    (deeds.degrees_with, (LOT, Z), ((NO_LOT, OPERATION), (NO_LINE, OPERATION))), (deeds.free_lines, (LOT,), ((NO_LOT,),)),
+    (generators.generator_degrees, (LOT,), ((NO_LOT,),)), (generators.relation_degrees, (LOT,), ((NO_LOT,),)),
+    (generators.generators, (LOT,), ((NO_LOT,),)), (generators.are_generators, (LOT, FREE), ((NO_LOT,), ())),
+    (generators.told_by_generators, (LOT, FREE, ROW), ((NO_LOT, NO_ROW), (NO_ROW,), (NO_ROW,))),
+    (generators.is_told_by_generators, (LOT, FREE, ROW, None), ((NO_LOT, NO_ROW), (NO_ROW,), (NO_ROW,), ())),
+    (generators.degrees_left, (LOT, X), ((NO_LOT, NO_LINE, OPERATION), (NO_LINE,))),
+    (chains.modular_points, (LOT,), ((NO_LOT,),)), (chains.is_modular, (LOT, Z), ((NO_LOT,), ())),
+    (chains.missing_join, (LOT, Z), ((NO_LOT, OPERATION), (NO_POINT, OPERATION))),
+    (chains.is_missing_join, (LOT, Z, (Y, X)), ((NO_LOT, OPERATION), (NO_POINT, OPERATION), ())),
+    (chains.degrees_by_point, (LOT, Z), ((NO_LOT, OPERATION), (NO_POINT, OPERATION))),
+    (chains.history_by_point, (LOT, Z), ((NO_LOT, OPERATION), (NO_POINT, OPERATION))),
+    (chains.history, (LOT,), ((NO_LOT,),)), (chains.is_history, (LOT, LOT.lines), ((NO_LOT,), ())),
+    (lambda lot, many: list(chains.each_free_part(lot, many)), (LOT, 2), ((NO_LOT, NUMBER), (NUMBER,))),
+    (webs.Web, (((1, 2),),), ((NO_WEB,),)), (webs.Web.full, ((1, 3, 4),), ((NO_WEB,),)), (WEB.lot_over, (5,), ((NUMBER,),)),
+    (WEB.with_tie, ((1, 3),), ((OPERATION,),)), (WEB.without_tie, ((1, 2),), ((OPERATION,),)),
+         (WEB.renamed, ((2, 1, 4, 3),), ((OPERATION,),)),
+    (WEB.__eq__, (WEB,), ((),)), (WEB.__contains__, ((1, 2),), ((),)), (webs.open_ring, (WEB,), ((NO_WEB,),)),
+    (webs.order_of_points, (WEB,), ((NO_WEB,),)), (webs.is_order_of_points, (WEB, (1, 2, 3, 4)), ((NO_WEB,), ())),
+    (webs.web_degrees, (WEB,), ((NO_WEB,),)),
+    (webs.signed_lot, (5, ((1, 2),), (), (1,)), ((NUMBER, OPERATION), (NO_WEB,), (NO_WEB,), (NO_WEB,))),
+    (counted.is_counted_row, (LOT, COUNTS, ROW), ((NO_LOT, OPERATION), (OPERATION,), ())),
+    (counted.count_counted, (LOT, COUNTS, 2), ((NO_LOT, OPERATION), (OPERATION,), (NUMBER,))),
+    (counted.counted_rows, (LOT, COUNTS, 2), ((NO_LOT, OPERATION), (OPERATION,), (NUMBER,))),
+    (counted.are_counted_free, (LOT, COUNTS, None), ((NO_LOT, OPERATION), (OPERATION,), ())),
+    (counted.counted_paper, (LOT, COUNTS), ((NO_LOT, OPERATION), (OPERATION,))),
+    (counted.local_marks, (LOT, COUNTS, Z), ((NO_LOT, OPERATION), (OPERATION,), (NO_POINT,))),
+    (counted.local_degrees, (LOT, COUNTS, Z), ((NO_LOT, OPERATION), (OPERATION,), (NO_POINT,))),
+    (counted.sum_of_products, (LOT, COUNTS), ((NO_LOT, OPERATION), (OPERATION,))),
+    (counted.lowered_counts, (LOT, COUNTS, X), ((NO_LOT, OPERATION), (OPERATION,), (NO_LINE, OPERATION))),
+    (counted.euler_marks, (LOT, COUNTS, X), ((NO_LOT, OPERATION), (OPERATION,), (NO_LINE, OPERATION))),
+    (promises.is_promise, (5, PROMISE), ((NUMBER,), ())), (promises.does_hold, (LOT, PROMISE), ((NO_LOT, NO_PROMISE), (NO_PROMISE,))),
+    (promises.paper_against, (LOT, PROMISE), ((NO_LOT, NO_PROMISE), (NO_PROMISE,))),
+    (promises.is_paper_against, (LOT, PROMISE, None), ((NO_LOT, NO_PROMISE), (NO_PROMISE,), ())),
+    (desks.Desk, (LOT,), ((NO_LOT,),)), (on_desk("do"), (DEEDS,), ((OPERATION,),)), (on_desk("would"), (DEEDS,), ((OPERATION,),)),
+    (on_desk("promise"), (("free",),), ((NO_PROMISE,),)), (on_desk("drop"), (PROMISE,), ((NO_PROMISE,),)),
+    (on_desk("undo"), (1,), ((NUMBER, "NothingToUndo"),)), (on_desk("at"), (1,), ((NUMBER,),)),
+         (on_desk("__contains__"), (PROMISE,), ((),)),
+    (on_desk("__eq__"), (None,), ((),)), (on_batch, (("take", X),), ((OPERATION,),)),
+    (formats.write_lot, (LOT,), ((NO_LOT,),)), (formats.read_lot, ("5: 1 0 0",), (("ParseError", NO_LOT),)),
+         (formats.write_marks, (MARKS,), ((NO_MARKS,),)),
+    (formats.read_marks, ("5: 1 0*1",), (("ParseError", NO_MARKS),)), (formats.write_forms, ((XF, YF),), ((NO_FORM,),)),
+    (formats.read_forms, (5, 2, "x"), ((NUMBER,), (NUMBER,), ("ParseError",))),
+    (shell.Shell, (LOT,), ((NO_LOT,),)), (on_shell("say"), ("show",), ((OPERATION,),)),
+         (on_shell("run"), (("show", "rest"),), ((OPERATION,),)),
 )
 
 
@@ -165,6 +243,14 @@ class ConventionsTest(Checks, unittest.TestCase):
             return [value.prime, value.lines, value.points]
         if isinstance(value, Marks):
             return [value.prime, list(value.counts.items())]
+        if isinstance(value, Web):
+            return [value.ties]
+        if isinstance(value, Batch):
+            return [value.is_open, self.shown(value.lot)]
+        if isinstance(value, Desk):
+            return [self.shown(value.lot), value.promises, value.version]
+        if isinstance(value, Shell):
+            return [self.shown(value.lot), value.promises, value.version, len(value)]
         if isinstance(value, (tuple, list)):
             return [type(value).__name__, *[self.shown(one) for one in value]]
         return value
@@ -174,7 +260,9 @@ class ConventionsTest(Checks, unittest.TestCase):
             self.assertEqual(repr(self.shown(outcome(call, *arguments))), repr(self.shown(outcome(call, *arguments))))
 
     def test_judging_functions_return_true_or_false(self):
-        for module in (numbers, tables, forms, products, lines, lots, primes, pairs, euclid, places, rows, slopes, free, press_pairs):
+        for module in (numbers, tables, forms, products, lines, lots, primes, pairs, euclid, places, rows, slopes, free, press_pairs,
+                       deeds,
+                       generators, chains, webs, counted, promises):
             for name, call in vars(module).items():
                 if name.startswith(("is_", "are_", "has_")) and inspect.isfunction(call):
                     for told, arguments, _ in CALLS:
@@ -185,13 +273,16 @@ class ConventionsTest(Checks, unittest.TestCase):
                                     self.assertIs(type(call(*arguments[:-1], value)), bool)
 
     def test_generators_raise_late(self):
-        for made in (forms.monomials(9, 9), lines.each_line(9), primes.each_off(9), rows.each_count(9)):
+        for made in (forms.monomials(9, 9), lines.each_line(9), primes.each_off(9), rows.each_count(9), chains.each_free_part(9, 9)):
             self.assertTrue(inspect.isgenerator(made))
             self.assertIn(outcome(next, made)[0], ("InvalidNumber", "InvalidLot"))
 
     def test_what_is_iterated(self):
         self.assertEqual([pair for pair in XF], [((1, 0), 1)])
         self.assertEqual([line for line in LOT], [Y, X, (1, 1, 0)])
+        self.assertEqual([tie for tie in WEB], [(1, 2), (3, 4)])
+        for value in (Desk(LOT).batch(), Shell(LOT)):
+            self.assertEqual(outcome(iter, value)[0], "TypeError")
 
 
 if __name__ == "__main__":

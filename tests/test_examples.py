@@ -5,13 +5,18 @@ import unittest
 from support import Checks, check_examples
 from tangentrows import errors
 from tangentrows.base import numbers, tables
+from tangentrows.chain import chains
+from tangentrows.count import counted
+from tangentrows.desk import desks, promises
 from tangentrows.form import forms, products
-from tangentrows.free import free
+from tangentrows.free import deeds, free
 from tangentrows.mark import euclid, marks, pairs, places
 from tangentrows.plane import lines, lots, primes
 from tangentrows.press import lines as press_lines
 from tangentrows.press import pairs as press_pairs
-from tangentrows.row import rows, slopes
+from tangentrows.row import generators, rows, slopes
+from tangentrows.text import formats, shell
+from tangentrows.web import webs
 
 LOTS = """
 >>> BRAID = Lot(0, ((1, 0, 0), (0, 1, 0), (0, 0, 1), (1, -1, 0), (1, 0, -1), (0, 1, -1)))
@@ -187,6 +192,114 @@ PRESSED = """
 ['0', '0']
 """
 
+DEEDS = """
+>>> [whole_degrees(lot) for lot in (BRAID, FIVE, FAN, PLUS, FANO)], [free_by_points(lot) for lot in (BRAID, FIVE, FAN, PLUS, FANO)]
+([(2, 3), None, (3, 3), (3, 3), (2, 4)], [True, False, False, True, True])
+>>> [sorted(point_counts(lot).values()) for lot in (BRAID, FAN, PLUS)], points_paper(FIVE), free_lines(PLUS)
+([[3, 3, 3, 3, 3, 3], [3, 3, 3, 3, 3, 6, 6], [3, 3, 3, 3, 4, 4, 4]], ('odd',), ((0, 1, 1), (1, 0, 1), (1, 1, 0)))
+>>> [is_points_paper(FAN, ("not free", (0, 0, 1))), is_points_paper(FAN, ("not free", (1, 0, 0))), is_points_paper(BRAID, ("free", (1, 1, 0))), is_points_paper(BRAID, ("free", (1, 2, 3)))]
+[True, False, True, False]
+>>> [degrees_without(BRAID, (1, 0, 0)), degrees_without(PLUS, (1, 0, 0)), degrees_without(PLUS, (1, 1, 0)), degrees_with(BRAID, (1, 1, 0)), degrees_with(BRAID, (1, 2, 3))]
+[(2, 2), None, (2, 3), (3, 3), None]
+>>> degrees_without(FAN, (0, 0, 1))
+raises Refused(("not free",))
+"""
+
+GENERATORS = """
+>>> GRID = Lot(0, ((0, 0, 1), (0, 1, 0), (0, 1, -1), (0, 1, 1), (1, 0, 0), (1, 0, -1)))
+>>> [generator_degrees(lot) for lot in (BRAID, FIVE, GRID, GRID.without_line((0, 0, 1)))], [relation_degrees(lot) for lot in (BRAID, FIVE, GRID.without_line((0, 0, 1)))]
+([(2, 3), (3, 3, 3, 3), (2, 3), (2, 3, 3)], [(), (4, 4), (4,)])
+>>> degrees_left(GRID, (0, 0, 1)), degrees_left(GRID, (1, 0, 0)), degrees_left(PLUS, (1, 1, 1)), degrees_left(PLUS, (1, 1, 0))
+((2, 3, 3), (1, 3), (3, 3, 3), (2, 3))
+>>> rows = generators(BRAID)
+>>> are_generators(BRAID, rows[::-1]), are_generators(BRAID, rows + rows[:1]), is_told_by_generators(BRAID, rows, rows[0], told_by_generators(BRAID, rows, rows[0]))
+(True, False, True)
+"""
+
+CHAINS = """
+>>> [modular_points(lot) for lot in (BRAID, PLUS, FIVE)], len(modular_points(FANO)), is_modular(BRAID, (0, 1, 1))
+([((0, 0, 1), (0, 1, 0), (1, 0, 0), (1, 1, 1)), (), ()], 7, False)
+>>> [degrees_by_point(BRAID, (1, 1, 1)), degrees_by_point(FANO, (1, 1, 1)), missing_join(BRAID, (1, 1, 1)), is_missing_join(BRAID, (0, 1, 1), ((0, 0, 1), (1, -1, 0)))]
+[(2, 3), (2, 4), None, True]
+>>> history_by_point(BRAID, (0, 0, 1))
+((0, 1, 0), (1, -1, 0), (1, 0, 0), (0, 0, 1), (0, 1, -1), (1, 0, -1))
+>>> [is_history(BRAID, BRAID.lines), is_history(BRAID, ((1, 0, 0), (0, 1, 0), (1, 0, -1), (0, 1, -1), (0, 0, 1), (1, -1, 0))), history(FIVE)]
+[True, False, None]
+>>> CUBES = Lot(7, ((0, 1, 3), (0, 1, 5), (0, 1, 6), (1, 0, 3), (1, 0, 5), (1, 0, 6), (1, 3, 0), (1, 5, 0), (1, 6, 0)))
+>>> [history(CUBES), is_history(PLUS, history(PLUS)), [len(list(each_free_part(BRAID, many))) for many in (3, 4, 5, 6)], len(list(each_free_part(FIVE, 4)))]
+[None, True, [20, 12, 6, 1], 0]
+>>> degrees_by_point(BRAID, (0, 1, 1))
+raises InvalidOperation
+"""
+
+WEBS = """
+>>> RING = Web(((1, 2), (3, 4), (2, 3), (1, 4)))
+>>> [RING.ties, RING.lot_over(0).lines, open_ring(RING), order_of_points(RING), web_degrees(RING)]
+[((1, 2), (1, 4), (2, 3), (3, 4)), ((0, 0, 1), (0, 1, -1), (1, -1, 0), (1, 0, 0)), (1, 2, 3, 4), None, None]
+>>> ALL = Web.full(POINTS)
+>>> [ALL.lot_over(0) == BRAID, web_degrees(ALL), web_degrees(ALL.without_tie((1, 2))), is_order_of_points(ALL, (4, 2, 3, 1)), web_degrees(Web.full((1, 2, 3))), Web.full((1, 2)).is_whole]
+[True, (2, 3), (2, 2), True, (0, 2), False]
+>>> [signed_lot(3, ((1, 2),), ((1, 2),), (3,)).lines, signed_lot(0, ((1, 2), (1, 3), (2, 3)), (), (1, 2, 3)) == BRAID]
+[((0, 0, 1), (1, 1, 0), (1, 2, 0)), True]
+>>> Web(((2, 1),))
+raises InvalidWeb
+"""
+
+COUNTED = """
+>>> TRI = Lot(0, ((1, 0, 0), (0, 1, 0), (0, 0, 1)))
+>>> SOME = {(1, 0, 0): 2, (0, 1, 0): 1, (0, 0, 1): 3}
+>>> are_counted_free(TRI, SOME, counted_paper(TRI, SOME)), sum_of_products(TRI, SOME), [count_counted(TRI, SOME, degree) for degree in range(4)]
+(True, 11, [0, 1, 4, 10])
+>>> local_marks(TRI, SOME, (0, 0, 1)).counts, local_degrees(TRI, SOME, (0, 0, 1)), local_degrees(TRI, SOME, (1, 1, 0))
+({(0, 1): 1, (1, 0): 2}, (1, 2), (0, 3))
+>>> euler_marks(TRI, SOME, (1, 0, 0)).counts
+{(0, 1): 3, (1, 0): 1}
+>>> TWICE = dict([(line, 1) for line in BRAID.lines])
+>>> TWICE[(1, 0, 0)] = 2
+>>> sum_of_products(BRAID, TWICE), local_degrees(BRAID, TWICE, (0, 0, 1)), euler_marks(BRAID, TWICE, (1, 0, 0)).counts
+(16, (2, 2), {(0, 1): 2, (1, -1): 1, (1, 0): 2})
+>>> counted_paper(FIVE, dict([(line, 1) for line in FIVE.lines])), lowered_counts(BRAID, TWICE, (0, 1, 0))[0].many
+(None, 5)
+>>> sum_of_products(TRI, {(1, 0, 0): 4, (0, 1, 0): 1, (0, 0, 1): 1})
+raises InvalidOperation
+"""
+
+PROMISES = """
+>>> [does_hold(BRAID, ("free",)), does_hold(BRAID, ("degrees", 2, 3)), does_hold(FAN, ("degrees", 3, 3)), does_hold(BRAID, ("modular", (1, 1, 1)))]
+[True, True, False, True]
+>>> [paper_against(BRAID, ("degrees", 1, 4)), paper_against(FAN, ("most", 4)), paper_against(FANO, ("free",))]
+[('rest', 6), ('point', (0, 0, 1)), None]
+"""
+
+DESKS = """
+>>> desk, plane = Desk(BRAID), (1, 2, 4)
+>>> [desk.promise(("free",)), desk.promise(("free",)), desk.would((("put", plane),)), desk.version]
+[True, False, (('free',),), 1]
+>>> [desk.do((("put", plane), ("take", plane), ("put", (1, 1, -1)))), desk.lot.rest, desk.promise(("degrees", 3, 3)), desk.would((("take", (1, 1, -1)),)), desk.undo(2), desk.lot == BRAID]
+[2, 9, True, (('degrees', 3, 3),), 1, True]
+"""
+
+FORMATS = """
+>>> [write_lot(BRAID), read_lot("2: 1 0 0, 0 1 1").lines, write_marks(Marks(0, {(1, 0): 2, (0, 1): 1})), read_marks("7:").total]
+['0: 0 0 1, 0 1 -1, 0 1 0, 1 -1 0, 1 0 -1, 1 0 0', ((0, 1, 1), (1, 0, 0)), '0: 0 1*1, 1 0*2', 0]
+>>> [form.degree for form in read_forms(3, 3, "x^2; 0; 2yz^2")]
+[2, None, 3]
+>>> read_lot("0: 1 0, 0 1 0")
+raises ParseError(6)
+>>> read_forms(0, 2, "x; z")
+raises ParseError(3)
+"""
+
+SHELL = """
+>>> shell = Shell(BRAID)
+>>> shell.run(("promise free", "put 1,2,4", "degrees 1,2,4", "take 1,0", "put 2,0,0", "undo 1"))
+('new', 'broken free', '2 3', 'wrong at 1', 'invalid', 'version 0')
+>>> shell.run(("open", "put 1,1,-1", "undo", "end", "degrees", "take 1,2,4", "why degrees 2 3"))
+('open', 'taken', 'invalid', 'version 1', '3 3', 'failed missing', 'many')
+>>> len(shell), str(shell)
+(13, 'shell over 0 at version 1, 0 promises')
+"""
+
 
 def names_of(*modules):
     """The names of some modules in one dict."""
@@ -234,6 +347,33 @@ class ExamplesTest(Checks, unittest.TestCase):
 
     def test_pressed(self):
         check_examples(self, names_of(forms, lots, press_lines, press_pairs), LOTS + PRESSED.lstrip("\n"))
+
+    def test_deeds(self):
+        check_examples(self, names_of(lots, deeds), LOTS + DEEDS.lstrip("\n"))
+
+    def test_generators(self):
+        check_examples(self, names_of(lots, generators), LOTS + GENERATORS.lstrip("\n"))
+
+    def test_chains(self):
+        check_examples(self, names_of(lots, chains), LOTS + CHAINS.lstrip("\n"))
+
+    def test_webs(self):
+        check_examples(self, names_of(lots, webs), LOTS + WEBS.lstrip("\n"))
+
+    def test_counted(self):
+        check_examples(self, names_of(lots, counted), LOTS + COUNTED.lstrip("\n"))
+
+    def test_promises(self):
+        check_examples(self, names_of(lots, promises), LOTS + PROMISES.lstrip("\n"))
+
+    def test_desks(self):
+        check_examples(self, names_of(lots, desks), LOTS + DESKS.lstrip("\n"))
+
+    def test_formats(self):
+        check_examples(self, names_of(lots, marks, formats), LOTS + FORMATS.lstrip("\n"))
+
+    def test_shell(self):
+        check_examples(self, names_of(lots, shell), LOTS + SHELL.lstrip("\n"))
 
     def test_what_is_said_of_the_lots(self):
         names = names_of(lots, primes, free, press_pairs)

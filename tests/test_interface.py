@@ -35,6 +35,23 @@ FUNCTIONS = {
                    "row_with": "lot factor relation", "count_relations": "lot degree", "count_left": "lot degree"},
     "free.free": {"is_free": "lot", "degrees_of": "lot", "free_rows": "lot", "are_free_rows": "lot value", "number_of_rows": "lot two",
                   "told_by_rows": "lot two row", "row_made": "lot two parts", "reduced_rows": "lot two prime"},
+    "free.deeds": {"whole_degrees": "lot", "point_counts": "lot", "points_paper": "lot", "is_points_paper": "lot value",
+                   "free_by_points": "lot", "degrees_without": "lot line", "degrees_with": "lot line", "free_lines": "lot"},
+    "row.generators": {"generator_degrees": "lot", "relation_degrees": "lot", "generators": "lot", "are_generators": "lot value",
+                       "told_by_generators": "lot rows row", "is_told_by_generators": "lot rows row value", "degrees_left": "lot line"},
+    "chain.chains": {"modular_points": "lot", "is_modular": "lot value", "missing_join": "lot point", "is_missing_join": "lot point value",
+                     "degrees_by_point": "lot point", "history_by_point": "lot point", "history": "lot", "is_history": "lot value",
+                     "each_free_part": "lot many"},
+    "web.webs": {"each_web": "", "open_ring": "web", "order_of_points": "web", "is_order_of_points": "web value", "web_degrees": "web",
+                 "signed_lot": "prime minus plus halves"},
+    "count.counted": {"is_counted_row": "lot counts value", "count_counted": "lot counts degree", "counted_rows": "lot counts degree",
+                      "are_counted_free": "lot counts value", "counted_paper": "lot counts", "local_marks": "lot counts point",
+                      "local_degrees": "lot counts point", "sum_of_products": "lot counts", "lowered_counts": "lot counts line",
+                      "euler_marks": "lot counts line"},
+    "desk.promises": {"is_promise": "prime value", "does_hold": "lot promise", "paper_against": "lot promise",
+                      "is_paper_against": "lot promise value"},
+    "text.formats": {"write_lot": "lot", "read_lot": "text", "write_marks": "marks", "read_marks": "text", "write_forms": "forms",
+                     "read_forms": "prime letters text"},
     "press.lines": {"left_out": "prime line", "spot_of": "prime line point", "marks_on": "lot line", "triples_on": "lot line"},
     "press.pairs": {"is_pressed": "lot line value", "count_pressed": "lot line degree", "degrees_on": "lot line", "gap": "lot line",
                     "two_pressed": "lot line", "are_two_pressed": "lot line value", "bar_on": "lot line", "is_bar": "lot line value",
@@ -57,12 +74,26 @@ CLASSES = {
                               "product": "self", "count_at": "self spot", "raised": "self spot", "lowered": "self spot",
                               "led": "self table", "__len__": "self", "__iter__": "self", "__contains__": "self x",
                               "__eq__": "self other", "__str__": "self"},
+    ("web.webs", "Web"): {"__init__": "self ties", "full": "cls points", "ties": "self", "is_whole": "self", "lot_over": "self prime",
+                          "with_tie": "self tie", "without_tie": "self tie", "renamed": "self points", "__eq__": "self other",
+                          "__len__": "self", "__iter__": "self", "__contains__": "self x", "__str__": "self"},
+    ("desk.desks", "Desk"): {"__init__": "self lot", "lot": "self", "promises": "self", "version": "self", "do": "self deeds",
+                             "would": "self deeds", "promise": "self promise", "drop": "self promise", "undo": "self count",
+                             "at": "self version", "batch": "self", "__len__": "self", "__iter__": "self", "__contains__": "self x",
+                             "__eq__": "self other", "__str__": "self"},
+    ("desk.desks", "Batch"): {"lot": "self", "is_open": "self", "put": "self deed", "end": "self", "drop": "self", "__enter__": "self",
+                              "__exit__": "self kind value trace"},
+    ("text.shell", "Shell"): {"__init__": "self lot", "lot": "self", "promises": "self", "version": "self", "say": "self command",
+                              "run": "self commands", "__len__": "self", "__str__": "self"},
 }
 CONSTANTS = {"base.numbers": ("PRIMES", "MAX_NUMBERS"), "base.tables": ("MAX_ROWS", "MAX_WIDTH"),
              "form.forms": ("MAX_DEGREE", "LETTERS"), "plane.lines": ("MAX_ENTRY",), "plane.lots": ("MAX_LINES",),
              "mark.marks": ("MAX_SPOTS", "MAX_COUNT", "MAX_TOTAL", "MAX_ENTRY"), "mark.pairs": ("MAX_DEGREE",), "mark.euclid": ("END",),
              "row.rows": ("MOST_LINES", "MOST_DEGREE", "MOST_FAR"), "row.slopes": ("MAX_LINES", "MAX_RELATION", "MAX_LEFT"),
-             "free.free": ("MOST_LINES",), "press.pairs": ("MAX_PRESSED",)}
+             "free.free": ("MOST_LINES",), "press.pairs": ("MAX_PRESSED",), "free.deeds": ("MAX_LINES",),
+             "row.generators": ("MOST_LINES", "MOST_TOLD"), "chain.chains": ("MAX_SEARCHED",), "web.webs": ("POINTS",),
+             "count.counted": ("MAX_LINES", "MAX_TOTAL", "MAX_DEGREE", "MAX_ENTRY"), "desk.desks": ("MAX_PROMISES", "MAX_DEEDS"),
+             "text.formats": ("MAX_FORMS",), "text.shell": ("MAX_LINE", "MAX_LINES")}
 
 
 def tree_of(module):
@@ -84,6 +115,8 @@ class InterfaceTest(unittest.TestCase):
                 self.assertEqual([one.arg for one in defined[method].args.args], parameters.split(), method)
         form = importlib.import_module("tangentrows.form.forms").Form
         self.assertIsNone(inspect.signature(form).parameters["table"].default)
+        desk = importlib.import_module("tangentrows.desk.desks").Desk
+        self.assertEqual(inspect.signature(desk.undo).parameters["count"].default, 1)
 
     def test_errors(self):
         defined = [node.name for node in tree_of("errors").body if isinstance(node, ast.ClassDef)]

@@ -19,10 +19,10 @@ BARRED = set("register mro elements open input law version_info with_traceback a
 WORDS = set("""type typing typing_extensions enum Enum IntEnum StrEnum Flag IntFlag Generic Protocol ABC ABCMeta namedtuple NamedTuple
     TypedDict TYPE_CHECKING abstractmethod""".split())
 DUNDERS = set("""__init__ __eq__ __repr__ __str__ __len__ __enter__ __exit__ __call__ __iter__ __add__ __sub__ __mul__ __or__ __neg__
-    __bool__ __contains__ __getitem__""".split())
+    __bool__ __contains__ __getitem__ __enter__ __exit__""".split())
 NODES = (ast.Global, ast.AsyncFunctionDef, ast.AsyncFor, ast.AsyncWith, ast.Await, ast.Div, ast.Import, ast.MatMult)
 # The subset lets these in some places; this package does without them.
-AVOIDED = (ast.AugAssign, ast.GeneratorExp, ast.Lambda, ast.Try, ast.With, ast.Match, ast.NamedExpr, ast.AnnAssign, ast.Nonlocal)
+AVOIDED = (ast.AugAssign, ast.GeneratorExp, ast.Lambda, ast.With, ast.Match, ast.NamedExpr, ast.AnnAssign, ast.Nonlocal)
 PASSING = ("zip", "enumerate", "reversed", "range", "map", "iter", "items", "keys", "values")
 
 
@@ -143,6 +143,41 @@ class LanguageTest(unittest.TestCase):
                     self.assertEqual(inner, [node])
                 if isinstance(node, ast.Starred):
                     self.assertIsInstance(node.value, (ast.Name, ast.Attribute), (path, node.lineno))
+
+    def test_what_is_caught(self):
+        # Only own errors, by their names; what a handler names is an error of which an own attribute is read.
+        own = {node.name for node in ast.parse((ROOT / "errors.py").read_text()).body if isinstance(node, ast.ClassDef)}
+        for path, text, tree in self.each():
+            for node in ast.walk(tree):
+                if isinstance(node, ast.Try):
+                    self.assertFalse(node.finalbody or node.orelse)
+                    for handler in node.handlers:
+                        names = handler.type.elts if isinstance(handler.type, ast.Tuple) else [handler.type]
+                        self.assertLessEqual({name.id for name in names}, own)
+                        uses = [one for one in ast.walk(handler) if isinstance(one, ast.Name) and one.id == handler.name]
+                        reads = [one.value for one in ast.walk(handler) if isinstance(one, ast.Attribute)]
+                        self.assertTrue(all(use in reads for use in uses))
+                if isinstance(node, ast.Raise):
+                    self.assertTrue(isinstance(node.exc, ast.Call) and node.cause is None)
+
+    def test_methods_with_underscores(self):
+        for path, text, tree in self.each():
+            for node in ast.walk(tree):
+                if isinstance(node, ast.FunctionDef) and node.name in ("__len__", "__iter__"):
+                    self.assertEqual(len(node.body), 1)
+                    self.assertEqual(node.body[0].value.func.id, node.name.strip("_"))
+                if isinstance(node, ast.FunctionDef) and node.name == "__exit__":
+                    for row in node.body:
+                        self.assertTrue(isinstance(row, ast.Assign) and isinstance(row.value, ast.Constant))
+                        self.assertIsInstance(row.targets[0], ast.Attribute)
+
+    def test_texts_in_braces(self):
+        for path, text, tree in self.each():
+            for node in ast.walk(tree):
+                if isinstance(node, ast.FormattedValue):
+                    self.assertIsNone(node.format_spec)
+                    constants = [one.value for one in ast.walk(node.value) if isinstance(one, ast.Constant)]
+                    self.assertTrue(all(isinstance(one, int) for one in constants))
 
     def test_what_is_iterated_at_once(self):
         for path, text, tree in self.each():

@@ -1,0 +1,1 @@
+"""Lots whose lines count more than once."""

@@ -1,0 +1,1 @@
+"""Promises about lots, and desks that keep them."""

@@ -1,0 +1,1 @@
+"""Texts of lots, marks and forms, and a shell."""
