@@ -22,6 +22,8 @@ from tangentrows.press.pairs import degrees_on
 ONE = Lot(0, (X,))
 # Whole degrees, 4 and 4, but not free; each line has four points.
 NONET = Lot(3, ((0, 0, 1), (0, 1, 0), (0, 1, 2), (1, 0, 0), (1, 0, 1), (1, 1, 1), (1, 1, 2), (1, 2, 0), (1, 2, 2)))
+# Whole degrees, 4 and 4, but not free; the line (1, 2, 3) has six points, which is 2 more than 4.
+NEAR = Lot(7, ((0, 1, 1), (1, 1, 0), (1, 2, 1), (1, 2, 2), (1, 2, 3), (1, 3, 2), (1, 4, 3), (1, 5, 4), (1, 6, 1)))
 WORDS = ("bundle", "free", "odd", "not free")
 
 
@@ -66,7 +68,7 @@ def planes(lot, source):
 
 def lots_of_all_kinds():
     yield from many_lots()
-    yield from (CUBES, NONET, all_lines(3), Lot(0, PENCIL), Lot(0, PENCIL[:12] + (Z,)), Lot(0, GENERAL[:13]), Lot(0, GENERAL[:12]))
+    yield from (CUBES, NONET, NEAR, all_lines(3), Lot(0, PENCIL), Lot(0, PENCIL[:12] + (Z,)), Lot(0, GENERAL[:13]), Lot(0, GENERAL[:12]))
     source = random.Random(151)
     for prime in (2, 3, 5, 7):
         for many in (5, 7, 8, 9, 10, 12, 13):

@@ -27,7 +27,7 @@ NO_DEEDS = (None, 1, True, "put", (), ("put",), ("put", X, Y), ["put", X], ("Put
             ("led", [X, Y, Z]),
             ("led", (X, Y, list(Z))), ("led", (X, Y, (0, 0, True))), ("led", (X, Y, (0, 0, 10 ** 60))), ("led", ((1, 0), (0, 1))),
             (None, X), (X, "put"),
-            ("drop", X), ("put", UNIT), ("led", (X, Y, Z, X)))
+            ("drop", X), ("put", UNIT), ("led", (X, Y, Z, X)), ("led", ((1, 0, 0, 0), (0, 1, 0, 0), (0, 0, 1, 0), (0, 0, 0, 1))))
 
 
 def shown(desk):

@@ -276,6 +276,10 @@ class ToldTest(Checks, unittest.TestCase):
             if prime:
                 self.assertIs(is_told_by_generators(lot, rows, value, (scale + prime, forms)), False)
                 self.assertIs(is_told_by_generators(lot, rows, value, (scale - prime, forms)), False)
+                # The prime is 0 over itself, but no number.
+                nothing = (Form(prime, 3),) * len(forms)
+                self.assertIs(is_told_by_generators(lot, rows, value, (prime, nothing)), False)
+                self.assertIs(is_told_by_generators(lot, rows, zeros(prime), (prime, nothing)), False)
 
     def test_papers_with_relations(self):
         # FIVE has relations of the degree 4; each can be added to a paper.
@@ -296,11 +300,21 @@ class ToldTest(Checks, unittest.TestCase):
             self.assertEqual(max(part.degree for part in changed[1:] if part), power + 1)
             self.assertIs(is_told_by_generators(lot, rows, zeros(0), (1, changed)), expected)
 
-    def some_relation(self, rows):
-        """Forms for the plain row and for the generators of FIVE whose sum is zero; not all of them are zero."""
+    def test_papers_of_several_degrees(self):
+        # The last three generators of FIVE have a relation of the degree 6; the first one is told by itself.
+        rows = generators(FIVE)
+        q, *others = self.some_relation(rows[1:], 6)
+        self.assertIs(is_told_by_generators(FIVE, rows, zeros(0), (1, (q, read("0"), *others))), True)
+        self.assertIs(is_told_by_generators(FIVE, rows, rows[0], (1, (q, read("1"), *others))), False)
+        self.assertIs(is_told_by_generators(FIVE, rows, times(rows[0], read("x")), (1, (q, read("x"), *others))), False)
+        self.assertIs(is_told_by_generators(FIVE, rows, times(rows[0], read("y^2")), (1, (q, read("y^2"), *others))), False)
+        self.assertEqual({form.degree for form in others if form}, {3})
+
+    def some_relation(self, rows, degree=4):
+        """Forms for the plain row and for some rows whose sum is zero; not all of them are zero."""
         columns = []
         for at, one in enumerate((plain(0), *rows)):
-            columns += [(at, place, flat(times(one, Form(0, 3, {place: 1})), 4)) for place in monomials(3, 4 - degree_of(one))]
+            columns += [(at, place, flat(times(one, Form(0, 3, {place: 1})), degree)) for place in monomials(3, degree - degree_of(one))]
         equations = [list(line) for line in zip(*[numbers for _, _, numbers in columns])]
         numbers = kernel_of(0, equations, len(columns))[0]
         found = [Form(0, 3) for _ in range(len(rows) + 1)]

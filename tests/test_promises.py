@@ -241,7 +241,7 @@ class PromisesTest(Checks, unittest.TestCase):
     def test_modular(self):
         for value, expected in ((("off", X), True), (("off", Y), False), (("off", (True, 0, 0)), False), (("off", list(X)), False),
                                 (["off", X], False),
-                                (("off", X, X), False), (("off",), False), (("lines", *PENCIL[:2]), False), (("off", None), False)):
+                                (("off", X, X), False), (("Off", X), False), (("lines", X), False), (("off",), False), (("lines", *PENCIL[:2]), False), (("off", None), False)):
             self.assertIs(is_paper_against(Lot(0, PENCIL), ("modular", X), value), expected)
         self.assertEqual([paper_against(ONE, ("modular", Z)), is_paper_against(ONE, ("modular", Z), ("off", Z))], [("off", Z), True])
         pair = (Z, (1, -1, 0))

@@ -36,9 +36,8 @@ def is_missing_in(lot, point, value):
     if not isinstance(value, tuple) or len(value) != 2 or not all([line in lot for line in value]):
         return False
     one, other = value
-    if one >= other or lies_on(lot.prime, point, one) or lies_on(lot.prime, point, other):
-        return False
-    return not is_on_any(lot.prime, crossed(lot.prime, one, other), lot.lines_at(point))
+    # A line through the point is on its meets with all others, so such a pair is refused, too.
+    return one < other and not is_on_any(lot.prime, crossed(lot.prime, one, other), lot.lines_at(point))
 
 
 def need_modular(lot, point):

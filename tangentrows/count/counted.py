@@ -40,7 +40,8 @@ def need_counts(lot, counts):
 def need_few_and_small(lot):
     """Raise the errors for a lot that has too many lines, or too great numbers of them."""
     need_few_lines(lot, MAX_LINES)
-    if lot.prime == 0 and max([abs(number) for line in lot.lines for number in line]) > MAX_ENTRY:
+    # Over primes other than 0 no number is so great.
+    if max([abs(number) for line in lot.lines for number in line]) > MAX_ENTRY:
         raise TooMany(MAX_ENTRY)
 
 
@@ -69,7 +70,7 @@ def counted_conditions(lot, counts, degree):
     prime = lot.prime
     found = []
     for line, count in counts.items():
-        for order in range(min(count, degree + 1)):
+        for order in range(count):
             found.extend([spread(prime, row, line) for row in line_rows(prime, line, degree, order)])
     return found
 
@@ -108,7 +109,7 @@ def euler_count(lot, counts, line, point):
     marks = local_in(lot, counts, point)
     low, high = degrees_of_marks(marks)
     less = degrees_of_marks(marks.lowered(local_spot(lot.prime, point, line)))
-    return low if less == (min(low, high - 1), max(low, high - 1)) else high
+    return low if less[0] == low else high
 
 
 def is_counted_row(lot, counts, value):

@@ -13,7 +13,7 @@ MAX_DEEDS = 20
 
 def is_deed(prime, value):
     """Whether the value is a deed over a prime that was checked."""
-    if not isinstance(value, tuple) or len(value) != 2 or not isinstance(value[0], str):
+    if not isinstance(value, tuple) or len(value) != 2:
         return False
     if value[0] == "led":
         return is_square(prime, value[1], 3, 3)

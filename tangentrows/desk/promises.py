@@ -18,7 +18,7 @@ def are_degrees(value):
 
 def fits_promise(prime, value):
     """Whether the value is a promise over a prime that was checked."""
-    if not isinstance(value, tuple) or not value or not isinstance(value[0], str):
+    if not isinstance(value, tuple) or not value:
         return False
     word, told = value[0], value[1:]
     if word == "free":

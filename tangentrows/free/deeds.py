@@ -140,6 +140,4 @@ def free_lines(lot):
     """The lines of a free lot without which it is free, ascending."""
     need_lot(lot)
     pair = degrees_if_free(lot)
-    if lot.many == 1:
-        return ()
     return tuple([line for line in lot.lines if degrees_less(pair, count_points(lot, line)) is not None])

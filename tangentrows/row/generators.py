@@ -157,10 +157,8 @@ def products_of(rows, forms):
 def paper_of(lot, own, rows, row):
     """A paper by which generators tell a tangent row, all of which were checked."""
     prime = lot.prime
-    scale, forms = 1, [Form(prime, 3) for _ in rows]
-    if degree_of_all(row) >= 0:
-        under, told = told_by_own(lot, own, row)
-        scale, forms = summed(prime, under, list(zip(told, told_back(lot, own, rows))))
+    under, told = told_by_own(lot, own, row)
+    scale, forms = summed(prime, under, list(zip(told, told_back(lot, own, rows))))
     firsts = [product[0] for product in products_of(rows, forms)]
     less = [-1] * len(rows)
     left = mixed([row[0], *firsts], [scale, *less])
@@ -169,9 +167,9 @@ def paper_of(lot, own, rows, row):
 
 def is_any_number(prime, value):
     """Whether the value is a number over the prime, of any size, other than 0."""
-    if not isinstance(value, int) or isinstance(value, bool) or value == 0:
+    if not isinstance(value, int) or isinstance(value, bool):
         return False
-    return prime == 0 or 0 < value < prime
+    return 0 < value < prime if prime else value != 0
 
 
 def is_paper_of(lot, rows, row, value):

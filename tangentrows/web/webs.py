@@ -103,10 +103,9 @@ class Web:
     @classmethod
     def full(cls, points):
         """The web in which each two of some points are tied."""
-        if not isinstance(points, tuple) or not all_fit(0, points, len(points)) or len(points) < 2:
+        if not isinstance(points, tuple) or len(points) > len(POINTS):
             raise InvalidWeb("no tuple of two to four points")
-        if not is_ascending_part(points, POINTS):
-            raise InvalidWeb("no ascending tuple of points")
+        # Of points that do not ascend, or of less than two, come no ties of a web.
         return cls(tuple(choices(points, 2)))
 
     @property
